@@ -1,0 +1,265 @@
+package rules
+
+import (
+	"cmp"
+	"reflect"
+	"slices"
+	"strings"
+	"testing"
+	"unsafe"
+
+	"mandrel/api"
+	"mandrel/graph"
+	"mandrel/infer"
+	"mandrel/pb"
+	"mandrel/schema"
+	"mandrel/shape"
+	"mandrel/spell"
+	"mandrel/view"
+	"mandrel/wire"
+)
+
+// call is a call of the chapters, with arguments.
+type call struct {
+	name string
+	do   any
+	args []any
+}
+
+func of(name string, do any, args ...any) call { return call{name, do, args} }
+
+// calls are those that take or answer lists and texts: well ones, and such as have an error.
+func calls() []call {
+	v := api.View{Off: 1, Dims: []int{2, 3}, Strides: []int{3, 1}}
+	l := []call{
+		of("wire.Fields", wire.Fields, "\x08\x96\x01\x12\x02ab"),
+		of("wire.Fields", wire.Fields, "\x08\x96\x01\x12\x02a"),
+		of("wire.Write", wire.Write, []api.Field{{Num: 1, Kind: api.WireBytes, B: "ab"}, {Num: 2, U: 7}}),
+		of("wire.Packed", wire.Packed, "\x01\x02\x03"),
+		of("shape.Broadcast", shape.Broadcast, []int{2, 1}, []int{3}),
+		of("shape.Strides", shape.Strides, []int{2, 3}),
+		of("shape.Coords", shape.Coords, []int{2, 3}, 5),
+		of("view.Whole", view.Whole, []int{2, 3}),
+		of("view.Transpose", view.Transpose, v, []int{1, 0}),
+		of("view.Slice", view.Slice, v, 1, 1, 2),
+		of("view.Spread", view.Spread, v, []int{4, 2, 3}),
+		of("view.Reshape", view.Reshape, v, []int{3, 2}),
+		of("view.Read", view.Read, v, []int64{0, 1, 2, 3, 4, 5, 6}),
+		of("pb.Decode", pb.Decode, "\x3a\x05\x12\x03abc"),
+	}
+	for _, text := range []string{"z = Relu(x)", "z = Reshape(x); shape=2 -1; then=Relu,Neg,", "z = Slice(x); starts=0 1; ends=2 3; axes=1 0; then=Relu,Neg", "c = Constant(); value=f 2: 1 2"} {
+		n := spell.Node(text)
+		l = append(l, of("schema.Check", schema.Check, n), of("schema.Then", schema.Then, n), of("schema.Ints", schema.Ints, n, "shape", []int64{1}))
+	}
+	for _, g := range graphs() {
+		l = append(l, of("pb.Encode", pb.Encode, g), of("graph.Check", graph.Check, g), of("graph.Order", graph.Order, g), of("graph.Readers", graph.Readers, g, "x"))
+		l = append(l, of("infer.All", infer.All, g))
+	}
+	return append(l, nodeCalls("infer.Out", infer.Out)...)
+}
+
+func graphs() []api.Graph {
+	var l []api.Graph
+	for _, text := range []string{
+		"in x f 2 3\ninit w f 3: 1 2 3\nz = Add(y, w)\ny = Neg(x); then=Abs\nc = Constant(); value=i 2: 1 2\nout z f 2 3\nout x f 2 3",
+		"in x f 2\nout x f 2",
+		"in x f 2\nz = Neg(x)\nout z f 3",
+		"in x f 2\nz = Not(x)\nout z f 2",
+		"in x f 2\nz = Add(x, y)\ny = Neg(z)\nout z f 2",
+		"in x f 2\nz = Reshape(x); shape=1 1 1 1 1 1 2\nout z f 2",
+	} {
+		l = append(l, spell.Graph(text))
+	}
+	return l
+}
+
+// nodeCalls has a node of each kind that hands on, or cuts, the dims of its inputs.
+func nodeCalls(name string, do func(api.Node, []api.Value) (api.Value, api.Errno)) []call {
+	var l []call
+	for _, text := range []string{
+		"z = Relu(x) | f 2 3", "z = Clip(x) | f 2 3", "z = Cast(x); to=1 | b 2 3", "z = Softmax(x) | f 2 3",
+		"z = Add(x, y) | f 2 3 | f 3", "z = Add(x, y) | f 2 3 | f", "z = Where(x, y, w) | b 2 3 | f 2 3 | f 2 3",
+		"z = ReduceSum(x); axes= | f 2 3", "z = ReduceSum(x); axes=1 | f 2 3", "z = ArgMax(x) | f 2 3",
+		"z = Reshape(x); shape=0 -1 | f 2 3", "z = Expand(x); shape=2 3 | f 2 3", "z = Transpose(x); perm=0 1 | f 2 3", "z = Transpose(x) | f 2 3",
+		"z = Concat(x); axis=0 | f 2 3", "z = Concat(x, y); axis=0 | f 2 3 | f 2 3", "z = Slice(x); starts=; ends= | f 2 3", "z = Slice(x); starts=1; ends=2 | f 2 3",
+		"z = Gather(x, y) | f 2 3 | l 4 5", "z = Pad(x); pads=0 0 1 1 | f 2 3", "z = Squeeze(x); axes= | f 2 3", "z = Squeeze(x); axes=0 | f 1 3", "z = Unsqueeze(x); axes= | f 2 3", "z = Unsqueeze(x); axes=0 | f 2 3",
+		"z = Flatten(x) | f 2 3", "z = MatMul(x, y) | f 5 2 3 | f 5 3 4", "z = Gemm(x, y, w); transA=1 | f 3 2 | f 3 4 | f 2 4",
+		"z = Conv(x, y) | f 1 2 3 3 | f 1 2 1 1", "z = MaxPool(x); kernel_shape=1 1; strides=1 1; pads=0 0 0 0 | f 1 2 3 3", "z = GlobalAveragePool(x) | f 1 2 3 3",
+		"z = BatchNormalization(x, a, b, c, d) | f 1 2 3 | f 2 | f 2 | f 2 | f 2", "z = Constant(); value=f 2: 1 2",
+		"z = Relu(x) | b 2 3", "z = Neg(x); then=Not | f 2 3", "z = Neg(x) | f 65537", "z = What(x) | f 2",
+	} {
+		parts := strings.Split(text, "|")
+		var in []api.Value
+		for _, part := range parts[1:] {
+			in = append(in, spell.Value("a "+strings.TrimSpace(part)))
+		}
+		l = append(l, of(name+" of "+text, do, spell.Node(parts[0]), in))
+	}
+	return l
+}
+
+// results are what a call answers.
+func (c call) results(args []reflect.Value) []reflect.Value {
+	return reflect.ValueOf(c.do).Call(args)
+}
+
+// roomyArgs are copies of the arguments, with spare room behind each list.
+func (c call) roomyArgs() []reflect.Value {
+	var l []reflect.Value
+	for _, a := range c.args {
+		l = append(l, copied(reflect.ValueOf(a), roomy))
+	}
+	return l
+}
+
+type copyOfList func(reflect.Value) reflect.Value
+
+// roomy is a list with as much room again behind it, and some more, filled with the list itself.
+func roomy(l reflect.Value) reflect.Value {
+	room := reflect.MakeSlice(l.Type(), 2*l.Len()+3, 2*l.Len()+3)
+	reflect.Copy(room.Slice(l.Len(), room.Len()), l)
+	reflect.Copy(room, l)
+	return room.Slice(0, l.Len())
+}
+
+// whole is a list with its spare room as a part of it.
+func whole(l reflect.Value) reflect.Value {
+	room := reflect.MakeSlice(l.Type(), l.Cap(), l.Cap())
+	reflect.Copy(room, l.Slice(0, l.Cap()))
+	return room
+}
+
+// copied goes down into structs and lists.
+func copied(v reflect.Value, list copyOfList) reflect.Value {
+	c := reflect.New(v.Type()).Elem()
+	c.Set(v)
+	switch v.Kind() {
+	case reflect.Struct:
+		for i := range v.NumField() {
+			c.Field(i).Set(copied(v.Field(i), list))
+		}
+	case reflect.Slice:
+		c.Set(list(v))
+		for i := range c.Len() {
+			c.Index(i).Set(copied(c.Index(i), list))
+		}
+	case reflect.String:
+		c.SetString(strings.Clone(v.String()))
+	}
+	return c
+}
+
+// plain are things as they stand, their lists' spare room as parts of them or left out.
+func plain(l []reflect.Value, list copyOfList) []any {
+	var r []any
+	for _, v := range l {
+		r = append(r, copied(v, list).Interface())
+	}
+	return r
+}
+
+func tight(l reflect.Value) reflect.Value {
+	if l.Len() == 0 {
+		return reflect.Zero(l.Type())
+	}
+	room := reflect.MakeSlice(l.Type(), l.Len(), l.Len())
+	reflect.Copy(room, l)
+	return room
+}
+
+// span is where a list with its spare room, or a text, lies.
+type span struct{ from, to uintptr }
+
+func spans(v reflect.Value) []span {
+	var l []span
+	switch v.Kind() {
+	case reflect.Struct:
+		for i := range v.NumField() {
+			l = append(l, spans(v.Field(i))...)
+		}
+	case reflect.String:
+		s := v.String()
+		if at := uintptr(unsafe.Pointer(unsafe.StringData(s))); s != "" {
+			l = append(l, span{at, at + uintptr(len(s))})
+		}
+	case reflect.Slice:
+		if v.Cap() > 0 {
+			l = append(l, span{v.Pointer(), v.Pointer() + uintptr(v.Cap())*v.Type().Elem().Size()})
+		}
+		for i := range v.Len() {
+			l = append(l, spans(v.Index(i))...)
+		}
+	}
+	return l
+}
+
+func allSpans(l []reflect.Value) []span {
+	var r []span
+	for _, v := range l {
+		r = append(r, spans(v)...)
+	}
+	return r
+}
+
+func meet(l []span) bool {
+	slices.SortFunc(l, func(a, b span) int { return cmp.Compare(a.from, b.from) })
+	for i := range l {
+		if i > 0 && l[i-1].to > l[i].from {
+			return true
+		}
+	}
+	return false
+}
+
+// failed tells whether the last result is an error.
+func failed(results []reflect.Value) bool {
+	e, ok := results[len(results)-1].Interface().(api.Errno)
+	return ok && e != api.OK
+}
+
+func TestWhatIsHandedInStaysAsItIs(t *testing.T) {
+	for _, c := range calls() {
+		args := c.roomyArgs()
+		before := plain(args, whole)
+		results := c.results(args)
+		if !reflect.DeepEqual(plain(args, whole), before) {
+			t.Errorf("R5: %s changes what is handed in", c.name)
+		}
+		again := c.results(args)
+		if meet(slices.Concat(allSpans(args), allSpans(results), allSpans(again))) {
+			t.Errorf("R5: %s answers memory that is handed in, or answered twice", c.name)
+		}
+	}
+}
+
+func TestAnswersHangOnArgumentsAlone(t *testing.T) {
+	for _, c := range calls() {
+		want := plain(c.results(c.roomyArgs()), tight)
+		var bare []reflect.Value
+		for _, a := range c.args {
+			bare = append(bare, copied(reflect.ValueOf(a), tight))
+		}
+		if got := plain(c.results(bare), tight); !reflect.DeepEqual(got, want) {
+			t.Errorf("R6: %s answers %v, and then %v", c.name, want, got)
+		}
+	}
+}
+
+func TestNothingBesideAnError(t *testing.T) {
+	wrong := 0
+	for _, c := range calls() {
+		results := c.results(c.roomyArgs())
+		if !failed(results) {
+			continue
+		}
+		wrong++
+		for _, r := range results[:len(results)-1] {
+			if !copied(r, tight).IsZero() {
+				t.Errorf("R3: %s answers %v beside its error", c.name, r)
+			}
+		}
+	}
+	if wrong < 10 {
+		t.Errorf("only %d calls have an error", wrong)
+	}
+}
