@@ -11,6 +11,7 @@ import (
 	"mandrel/api"
 	"mandrel/graph"
 	"mandrel/infer"
+	"mandrel/num"
 	"mandrel/pb"
 	"mandrel/schema"
 	"mandrel/shape"
@@ -28,10 +29,26 @@ type call struct {
 
 func of(name string, do any, args ...any) call { return call{name, do, args} }
 
-// calls are those that take or answer lists and texts: well ones, and such as have an error.
+// calls are those of the layers that are built: well ones, and such as have an error.
 func calls() []call {
 	v := api.View{Off: 1, Dims: []int{2, 3}, Strides: []int{3, 1}}
 	l := []call{
+		of("wire.Varint", wire.Varint, uint64(150)),
+		of("wire.TakeVarint", wire.TakeVarint, "\x08\x96\x01", 1),
+		of("wire.TakeVarint", wire.TakeVarint, "\x08\x96", 1),
+		of("num.Check", num.Check, api.Bool, int64(1)),
+		of("num.Unary", num.Unary, "Neg", api.Int32, int64(1)),
+		of("num.Unary", num.Unary, "Neg", api.Bool, int64(1)),
+		of("num.Binary", num.Binary, "Div", api.Int32, int64(1), int64(2)),
+		of("num.Binary", num.Binary, "Div", api.Int32, int64(1), int64(0)),
+		of("num.Cast", num.Cast, api.Int32, api.Float, int64(1)),
+		of("num.Cast", num.Cast, api.Int32, 0, int64(1)),
+		of("shape.Count", shape.Count, []int{2, 3}),
+		of("shape.Count", shape.Count, []int{2, 0}),
+		of("shape.Offset", shape.Offset, []int{2, 3}, []int{1, 2}),
+		of("shape.Offset", shape.Offset, []int{2, 3}, []int{2, 1}),
+		of("pb.Check", pb.Check, spell.Tensor("i 2: 1 2")),
+		of("pb.Check", pb.Check, spell.Tensor("b 2: 1 2")),
 		of("wire.Fields", wire.Fields, "\x08\x96\x01\x12\x02ab"),
 		of("wire.Fields", wire.Fields, "\x08\x96\x01\x12\x02a"),
 		of("wire.Write", wire.Write, []api.Field{{Num: 1, Kind: api.WireBytes, B: "ab"}, {Num: 2, U: 7}}),
@@ -50,6 +67,7 @@ func calls() []call {
 	for _, text := range []string{"z = Relu(x)", "z = Reshape(x); shape=2 -1; then=Relu,Neg,", "z = Slice(x); starts=0 1; ends=2 3; axes=1 0; then=Relu,Neg", "c = Constant(); value=f 2: 1 2"} {
 		n := spell.Node(text)
 		l = append(l, of("schema.Check", schema.Check, n), of("schema.Then", schema.Then, n), of("schema.Ints", schema.Ints, n, "shape", []int64{1}))
+		l = append(l, of("schema.Int", schema.Int, n, "axis", int64(1)), of("schema.Bits", schema.Bits, n, "min", int64(1)))
 	}
 	for _, g := range graphs() {
 		l = append(l, of("pb.Encode", pb.Encode, g), of("graph.Check", graph.Check, g), of("graph.Order", graph.Order, g), of("graph.Readers", graph.Readers, g, "x"))
