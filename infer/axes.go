@@ -4,44 +4,22 @@ import (
 	"slices"
 
 	"mandrel/api"
+	"mandrel/attr"
 	"mandrel/schema"
 )
 
 const maxPad = 65536 // of Pad, ahead of a dimension or behind it
 
-// axisOf is an axis of a rank, counted from the first dimension on.
 func axisOf(a int64, rank int) int {
-	a = fromEnd(a, rank)
-	must(a >= 0 && a < int64(rank))
-	return int(a)
+	axis, ok := attr.Axis(a, rank)
+	must(ok)
+	return axis
 }
 
-// fromEnd is a number that counts from the end, if it is below 0.
-func fromEnd(x int64, end int) int64 {
-	if x < 0 {
-		return x + int64(end)
-	}
-	return x
-}
-
-// axesOf tells of each dimension of a rank whether it is one of the axes, which must be unlike.
 func axesOf(axes []int64, rank int) []bool {
-	is := make([]bool, rank)
-	for _, a := range axes {
-		i := axisOf(a, rank)
-		must(!is[i])
-		is[i] = true
-	}
+	is, ok := attr.Axes(axes, rank)
+	must(ok)
 	return is
-}
-
-// upTo are the numbers ahead of n, from 0 on.
-func upTo(n int) []int64 {
-	l := make([]int64, n)
-	for i := range l {
-		l[i] = int64(i)
-	}
-	return l
 }
 
 func reduced(n api.Node, x []int, axes []int64) []int {
@@ -86,9 +64,7 @@ func reshaped(x []int, shape []int64) []int {
 }
 
 func transposed(n api.Node, x []int) []int {
-	lastFirst := upTo(len(x))
-	slices.Reverse(lastFirst)
-	perm := schema.Ints(n, "perm", lastFirst)
+	perm := attr.Perm(n, len(x))
 	must(len(perm) == len(x))
 	axesOf(perm, len(x))
 	var dims []int
@@ -115,22 +91,17 @@ func joined(n api.Node, in []api.Value) []int {
 
 func sliced(n api.Node, x []int) []int {
 	starts, ends := schema.Ints(n, "starts", nil), schema.Ints(n, "ends", nil)
-	axes := schema.Ints(n, "axes", upTo(len(starts)))
+	axes := schema.Ints(n, "axes", attr.UpTo(len(starts)))
 	must(len(starts) == len(ends) && len(starts) == len(axes))
 	axesOf(axes, len(x))
 	dims := slices.Clone(x)
 	for i, a := range axes {
 		axis := axisOf(a, len(x))
-		start, end := bounded(starts[i], x[axis]), bounded(ends[i], x[axis])
+		start, end := attr.Bounded(starts[i], x[axis]), attr.Bounded(ends[i], x[axis])
 		must(start < end)
 		dims[axis] = end - start
 	}
 	return dims
-}
-
-// bounded is where a slice starts or ends within a dimension.
-func bounded(x int64, dim int) int {
-	return int(min(max(fromEnd(x, dim), 0), int64(dim)))
 }
 
 func padded(x []int, pads []int64) []int {
@@ -171,7 +142,7 @@ func unsqueezed(x []int, axes []int64) []int {
 
 // flattened has an axis that may stand behind all dimensions.
 func flattened(n api.Node, x []int) []int {
-	axis := fromEnd(schema.Int(n, "axis", 1), len(x))
+	axis := attr.FromEnd(schema.Int(n, "axis", 1), len(x))
 	must(axis >= 0 && axis <= int64(len(x)))
 	return []int{countOf(x[:axis]), countOf(x[axis:])}
 }

@@ -4,13 +4,14 @@ import (
 	"slices"
 
 	"mandrel/api"
+	"mandrel/attr"
 	"mandrel/schema"
 )
 
 // dimsMade are the dims of what a node makes, of inputs of types that it has.
 func dimsMade(n api.Node, in []api.Value) []int {
 	if n.Op == "Constant" {
-		return constant(n).Dims
+		return attr.Value(n).Dims
 	}
 	x := in[0].Dims
 	switch n.Op {
@@ -20,7 +21,7 @@ func dimsMade(n api.Node, in []api.Value) []int {
 		axisOf(schema.Int(n, "axis", -1), len(x))
 		return x
 	case "ReduceSum", "ReduceMax", "ReduceMean":
-		return reduced(n, x, schema.Ints(n, "axes", upTo(len(x))))
+		return reduced(n, x, schema.Ints(n, "axes", attr.UpTo(len(x))))
 	case "ArgMax":
 		return reduced(n, x, []int64{schema.Int(n, "axis", 0)})
 	case "Reshape":

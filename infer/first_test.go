@@ -4,6 +4,7 @@ import (
 	"testing"
 
 	"mandrel/api"
+	"mandrel/spell"
 )
 
 // fault is something wrong in a node or in what it is given, and the error that it has by itself.
@@ -50,7 +51,7 @@ func sized(i int, dims ...int) func(*api.Node, *[]api.Value) {
 
 // What stands ahead of the table, then the table, then what stands behind it.
 func TestTheFirstErrorOfCast(t *testing.T) {
-	expectFirst(t, func() (api.Node, []api.Value) { return nodeOf("Cast; to=9", 1), valuesOf("f 2") }, []fault{
+	expectFirst(t, func() (api.Node, []api.Value) { return spell.Op("Cast; to=9", 1), valuesOf("f 2") }, []fault{
 		{"schema", attribute(api.Attr{Name: "what"}), api.ErrUnsupported},
 		{"count", func(n *api.Node, in *[]api.Value) { *in = append(*in, api.Value{}) }, api.ErrGraph},
 		{"type", typed(0, 3), api.ErrUnsupported},
@@ -61,11 +62,11 @@ func TestTheFirstErrorOfCast(t *testing.T) {
 }
 
 func TestTheFirstErrorOfAdd(t *testing.T) {
-	expectFirst(t, func() (api.Node, []api.Value) { return nodeOf("Add", 2), valuesOf("i 256 1, i 1 1 1 256") }, []fault{
+	expectFirst(t, func() (api.Node, []api.Value) { return spell.Op("Add", 2), valuesOf("i 256 1, i 1 1 1 256") }, []fault{
 		{"schema", attribute(api.Attr{Name: "axis", Kind: api.AttrInt}), api.ErrUnsupported},
 		{"count", func(n *api.Node, in *[]api.Value) { *in = (*in)[:1]; (*in)[0].Type = 0 }, api.ErrGraph},
 	})
-	expectFirst(t, func() (api.Node, []api.Value) { return nodeOf("Add", 2), valuesOf("i 256 1, i 1 1 1 256") }, []fault{
+	expectFirst(t, func() (api.Node, []api.Value) { return spell.Op("Add", 2), valuesOf("i 256 1, i 1 1 1 256") }, []fault{
 		{"first type", typed(0, 0), api.ErrUnsupported},
 		{"first dims", sized(0, 65537, 1), api.ErrLimit},
 		{"second type", typed(1, 0), api.ErrUnsupported},
@@ -78,7 +79,7 @@ func TestTheFirstErrorOfAdd(t *testing.T) {
 
 // A rule that is ErrGraph counts ahead of one that is another error.
 func TestTheFirstErrorOfMatMul(t *testing.T) {
-	expectFirst(t, func() (api.Node, []api.Value) { return nodeOf("MatMul", 2), valuesOf("f 300 1 1 2, f 1 2 3") }, []fault{
+	expectFirst(t, func() (api.Node, []api.Value) { return spell.Op("MatMul", 2), valuesOf("f 300 1 1 2, f 1 2 3") }, []fault{
 		{"types", typed(1, api.Int32), api.ErrGraph},
 		{"inner", func(n *api.Node, in *[]api.Value) { (*in)[0].Dims[3] = 1 }, api.ErrGraph},
 		{"ahead", func(n *api.Node, in *[]api.Value) { (*in)[1].Dims[0] = 300 }, api.ErrLimit},
@@ -87,7 +88,7 @@ func TestTheFirstErrorOfMatMul(t *testing.T) {
 }
 
 func TestTheFirstErrorOfReshape(t *testing.T) {
-	expectFirst(t, func() (api.Node, []api.Value) { return nodeOf("Reshape; shape=2 -1", 1), valuesOf("l 2 3") }, []fault{
+	expectFirst(t, func() (api.Node, []api.Value) { return spell.Op("Reshape; shape=2 -1", 1), valuesOf("l 2 3") }, []fault{
 		{"dims", sized(0, 0), api.ErrGraph},
 		{"not as many", func(n *api.Node, in *[]api.Value) { n.Attrs[0].Ints[0] = 4 }, api.ErrGraph},
 		{"too many dims", func(n *api.Node, in *[]api.Value) { n.Attrs[0].Ints = append(n.Attrs[0].Ints, 1, 1, 1, 1, 1) }, api.ErrLimit},
@@ -96,7 +97,7 @@ func TestTheFirstErrorOfReshape(t *testing.T) {
 }
 
 func TestTheFirstErrorOfExpand(t *testing.T) {
-	expectFirst(t, func() (api.Node, []api.Value) { return nodeOf("Expand; shape=2 1", 1), valuesOf("b 2 3") }, []fault{
+	expectFirst(t, func() (api.Node, []api.Value) { return spell.Op("Expand; shape=2 1", 1), valuesOf("b 2 3") }, []fault{
 		{"below 1", func(n *api.Node, in *[]api.Value) { n.Attrs[0].Ints[1] = 0 }, api.ErrGraph},
 		{"too great", func(n *api.Node, in *[]api.Value) { n.Attrs[0].Ints[0] = 65537 }, api.ErrLimit},
 		{"then", attribute(api.Attr{Name: "then", Kind: api.AttrString, S: "Neg"}), api.ErrGraph},
@@ -127,7 +128,7 @@ func TestLongAttributes(t *testing.T) {
 		{"Slice; ends=1", "starts", ones, api.ErrGraph},
 		{"Pad", "pads", ones, api.ErrGraph},
 	} {
-		n := nodeOf(c.node, 1)
+		n := spell.Op(c.node, 1)
 		n.Attrs = append(n.Attrs, api.Attr{Name: c.name, Kind: api.AttrInts, Ints: c.list})
 		if _, e := Out(n, valuesOf("f 1")); e != c.e {
 			t.Errorf("P8.1: %s with %d numbers: %d, not %d", c.node, many, e, c.e)

@@ -7,6 +7,8 @@ import (
 	"testing"
 
 	"mandrel/api"
+	"mandrel/attr"
+	"mandrel/spell"
 )
 
 // slow finds dims by trying what may be; false, if a rule of the table does not hold. x is the first input's, y the second one's.
@@ -69,7 +71,7 @@ func someAxes(ints map[string][]int64, rank int) ([]int, bool) {
 			return axesFound(l, rank)
 		}
 	}
-	return axesFound(upTo(rank), rank)
+	return axesFound(attr.UpTo(rank), rank)
 }
 
 func without(l []int, at []int) []int {
@@ -146,7 +148,7 @@ func slowTranspose(ints map[string][]int64, x, y []int) ([]int, bool) {
 		slices.Reverse(dims)
 		return dims, true
 	}
-	if !slices.Equal(slices.Sorted(slices.Values(perm)), upTo(len(x))) {
+	if !slices.Equal(slices.Sorted(slices.Values(perm)), attr.UpTo(len(x))) {
 		return nil, false
 	}
 	var dims []int
@@ -169,7 +171,7 @@ func slowConcat(ints map[string][]int64, x, y []int) ([]int, bool) {
 // slowSlice counts the places that are neither ahead of the start nor behind the end.
 func slowSlice(ints map[string][]int64, x, y []int) ([]int, bool) {
 	starts, ends := ints["starts"], ints["ends"]
-	axes, ok := axesFound(upTo(len(starts)), len(x))
+	axes, ok := axesFound(attr.UpTo(len(starts)), len(x))
 	if _, given := ints["axes"]; given {
 		axes, ok = axesFound(ints["axes"], len(x))
 	}
@@ -352,7 +354,7 @@ func TestDimsAgainstTrying(t *testing.T) {
 			if c.op == "Conv" && r.Intn(4) > 0 {
 				y[1] = max(x[1]/(1+r.Intn(2)), 1)
 			}
-			n := nodeOf(c.op, len(in))
+			n := spell.Op(c.op, len(in))
 			var ints map[string][]int64
 			n.Attrs, ints = attrsOf(r, c, len(x))
 			dims, ok := c.slow(ints, slices.Clone(x), slices.Clone(y))

@@ -9,19 +9,6 @@ import (
 	"mandrel/spell"
 )
 
-// word is what stands for an error in the tests' lines.
-func word(e api.Errno) string {
-	switch e {
-	case api.ErrGraph:
-		return "graph"
-	case api.ErrUnsupported:
-		return "unsupported"
-	case api.ErrLimit:
-		return "limit"
-	}
-	return ""
-}
-
 // valuesOf are values of a text such as `f 2 3, l 4`.
 func valuesOf(text string) []api.Value {
 	var l []api.Value
@@ -34,13 +21,6 @@ func valuesOf(text string) []api.Value {
 	return l
 }
 
-// nodeOf is a node with that many inputs, of a text such as `Softmax; axis=1`.
-func nodeOf(text string, inputs int) api.Node {
-	op, attrs, _ := strings.Cut(text, ";")
-	in := strings.Join(slices.Repeat([]string{"x"}, inputs), ",")
-	return spell.Node("z = " + strings.TrimSpace(op) + "(" + in + ");" + attrs)
-}
-
 // expectLines holds Out against lines of a node, what it is given, and what comes out or the error.
 func expectLines(t *testing.T, lines string) {
 	t.Helper()
@@ -50,14 +30,14 @@ func expectLines(t *testing.T, lines string) {
 			t.Fatalf("%s: not three parts", line)
 		}
 		in, want := valuesOf(part[1]), strings.TrimSpace(part[2])
-		v, e := Out(nodeOf(part[0], len(in)), in)
+		v, e := Out(spell.Op(part[0], len(in)), in)
 		if e != api.OK {
-			if word(e) != want || v.Name != "" || v.Type != 0 || len(v.Dims) != 0 {
+			if spell.Word(e) != want || v.Name != "" || v.Type != 0 || len(v.Dims) != 0 {
 				t.Errorf("P8.1: %s: %v, %d", strings.TrimSpace(line), v, e)
 			}
 			continue
 		}
-		if word(api.ErrGraph) == want || word(api.ErrLimit) == want || word(api.ErrUnsupported) == want {
+		if spell.Word(api.ErrGraph) == want || spell.Word(api.ErrLimit) == want || spell.Word(api.ErrUnsupported) == want {
 			t.Errorf("P8.1: %s: %v without an error", strings.TrimSpace(line), v)
 			continue
 		}

@@ -2,6 +2,7 @@ package infer
 
 import (
 	"mandrel/api"
+	"mandrel/attr"
 	"mandrel/num"
 	"mandrel/schema"
 )
@@ -10,7 +11,7 @@ import (
 func typeMade(n api.Node, in []api.Value) int {
 	switch n.Op {
 	case "Constant":
-		return constant(n).Type
+		return attr.Value(n).Type
 	case "Cast":
 		to := whole(schema.Int(n, "to", 0))
 		stopUnlessType(to)
@@ -50,16 +51,6 @@ func sameType(in []api.Value) int {
 		must(v.Type == in[0].Type)
 	}
 	return in[0].Type
-}
-
-// constant is the value of a Constant, which schema.Check has seen.
-func constant(n api.Node) api.Tensor {
-	for _, a := range n.Attrs {
-		if a.Name == "value" {
-			return a.T
-		}
-	}
-	return api.Tensor{}
 }
 
 // mustBeOfOne and mustBeOfTwo ask num of an element that each type has, and that may be divided by.

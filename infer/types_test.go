@@ -7,6 +7,7 @@ import (
 	"testing"
 
 	"mandrel/api"
+	"mandrel/spell"
 )
 
 func types() []int { return []int{api.Float, api.Int32, api.Int64, api.Bool} }
@@ -106,7 +107,7 @@ func TestTypesOfEachOperator(t *testing.T) {
 	for _, line := range strings.Split(strings.TrimSpace(typeRows), "\n") {
 		part := strings.Split(line, "|")
 		in := valuesOf(part[1])
-		n := nodeOf(part[0], len(in))
+		n := spell.Op(part[0], len(in))
 		for _, list := range typeLists(len(in)) {
 			want, wantError := 0, api.ErrGraph
 			for _, row := range strings.Fields(part[2]) {
@@ -129,7 +130,7 @@ func TestThenHasTheTypesOfNum(t *testing.T) {
 	for _, line := range strings.Split(strings.TrimSpace(typeRows), "\n")[:10] {
 		part := strings.Split(line, "|")
 		for _, typ := range types() {
-			n := nodeOf("Identity; then=Identity,"+strings.TrimSpace(part[0])+",Identity", 1)
+			n := spell.Op("Identity; then=Identity,"+strings.TrimSpace(part[0])+",Identity", 1)
 			v, e := Out(n, []api.Value{{Type: typ, Dims: []int{2}}})
 			var has []int
 			for _, row := range strings.Fields(part[2]) {
@@ -146,7 +147,7 @@ func TestTypesThatAreNone(t *testing.T) {
 	for _, line := range strings.Split(strings.TrimSpace(typeRows), "\n") {
 		part := strings.Split(line, "|")
 		count := len(valuesOf(part[1]))
-		n := nodeOf(part[0], count)
+		n := spell.Op(part[0], count)
 		for i := range count {
 			for _, typ := range []int{0, 2, 5, 8, 10, -1, math.MinInt, math.MaxInt} {
 				in := valuesOf(part[1])

@@ -9,6 +9,7 @@ import (
 	"mandrel/api"
 	"mandrel/graph"
 	"mandrel/shape"
+	"mandrel/spell"
 )
 
 // wildNumbers are near the bounds that the document names, and as far off as may be.
@@ -26,7 +27,7 @@ func wildInts(r *rand.Rand) []int64 {
 
 // wildNode has an operator of the table, and attributes of its own with any numbers.
 func wildNode(r *rand.Rand, op string, inputs int) api.Node {
-	n := nodeOf(op, inputs)
+	n := spell.Op(op, inputs)
 	for i := range n.Attrs {
 		n.Attrs[i].I, n.Attrs[i].Ints = wildNumbers()[r.Intn(len(wildNumbers()))], wildInts(r)
 	}

@@ -9,8 +9,10 @@ import (
 	"unsafe"
 
 	"mandrel/api"
+	"mandrel/elem"
 	"mandrel/graph"
 	"mandrel/infer"
+	"mandrel/move"
 	"mandrel/num"
 	"mandrel/pb"
 	"mandrel/schema"
@@ -73,7 +75,8 @@ func calls() []call {
 		l = append(l, of("pb.Encode", pb.Encode, g), of("graph.Check", graph.Check, g), of("graph.Order", graph.Order, g), of("graph.Readers", graph.Readers, g, "x"))
 		l = append(l, of("infer.All", infer.All, g))
 	}
-	return append(l, nodeCalls("infer.Out", infer.Out)...)
+	l = append(l, nodeCalls("infer.Out", infer.Out)...)
+	return append(l, tensorCalls()...)
 }
 
 func graphs() []api.Graph {
@@ -112,6 +115,26 @@ func nodeCalls(name string, do func(api.Node, []api.Value) (api.Value, api.Errno
 			in = append(in, spell.Value("a "+strings.TrimSpace(part)))
 		}
 		l = append(l, of(name+" of "+text, do, spell.Node(parts[0]), in))
+	}
+	return l
+}
+
+// tensorCalls have a node of each way in which a layer makes elements; each layer has those of the others as wrong ones.
+func tensorCalls() []call {
+	var l []call
+	for _, text := range []string{
+		"Identity | f 2: 1 2", "Neg; then=Abs | i 2: 1 2", "Add | i 2: 1 2, i: 3", "Add | i 2: 1 2, i 2: 3 4", "Where | b 2: 1 0, f 2: 1 2, f 2: 3 4", "Clip; min=0 | f 2: 1 2", "Cast; to=1 | f 2: 1 2", "Cast; to=9 | f 2: 1 2",
+		"Div | i 2: 1 2, i 2: 1 0", "Neg | i 2: 1", "Neg | b: 1", "What | i: 1",
+		"Reshape; shape=1 -1 | i 2: 1 2", "Reshape; shape=2 | i 2: 1 2", "Expand; shape=2 | i 2: 1 2", "Expand; shape=2 2 | i 2: 1 2", "Transpose; perm=0 | i 2: 1 2", "Transpose | i 2 1: 1 2",
+		"Concat; axis=0 | i 2: 1 2", "Concat; axis=0 | i 2: 1 2, i 1: 3", "Slice; starts=0; ends=2; axes=0 | i 2: 1 2", "Slice; starts=; ends= | i 2: 1 2", "Gather | i 2: 1 2, i 2: 0 1", "Gather | i 2: 1 2, i: -1", "Gather | i 2: 1 2, i: 2",
+		"Pad; pads=0 0 | f 2: 1 2", "Pad; pads=1 2; value=3 | f 2: 1 2", "Squeeze; axes=0 | i 1 2: 1 2", "Squeeze; axes= | i 2: 1 2", "Unsqueeze; axes=0 | i 2: 1 2", "Unsqueeze; axes= | i 2: 1 2", "Flatten | i 2 1: 1 2", "Constant; value=i 2: 1 2 |",
+	} {
+		node, in, _ := strings.Cut(text, "|")
+		tensors := spell.Tensors(in)
+		n := spell.Op(node, len(tensors))
+		for name, do := range map[string]doNode{"elem.Do": elem.Do, "move.Do": move.Do} {
+			l = append(l, of(name+" of "+text, do, n, tensors))
+		}
 	}
 	return l
 }
