@@ -59,6 +59,17 @@ func Perm(n api.Node, rank int) []int64 {
 	return schema.Ints(n, "perm", lastFirst)
 }
 
+// Along are the axes along which a node brings elements of a tensor of a rank together; what infer has not seen may be no axes.
+func Along(n api.Node, rank int) []int64 {
+	switch n.Op {
+	case "ArgMax":
+		return []int64{schema.Int(n, "axis", 0)}
+	case "Softmax":
+		return []int64{schema.Int(n, "axis", -1)}
+	}
+	return schema.Ints(n, "axes", UpTo(rank))
+}
+
 // Value is that of a Constant; its lists are the node's own.
 func Value(n api.Node) api.Tensor {
 	for _, a := range n.Attrs {

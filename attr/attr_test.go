@@ -80,6 +80,27 @@ func TestPerm(t *testing.T) {
 	}
 }
 
+func TestAlong(t *testing.T) {
+	for _, c := range []struct {
+		text string
+		rank int
+		want []int64
+	}{
+		{"ReduceSum", 3, []int64{0, 1, 2}},
+		{"ReduceMax", 0, nil},
+		{"ReduceMean; axes=-1 0", 3, []int64{-1, 0}},
+		{"ReduceSum; axes=", 2, nil},
+		{"ArgMax", 3, []int64{0}},
+		{"ArgMax; axis=-2", 3, []int64{-2}},
+		{"Softmax", 3, []int64{-1}},
+		{"Softmax; axis=1", 3, []int64{1}},
+	} {
+		if got := Along(spell.Op(c.text, 1), c.rank); !slices.Equal(got, c.want) {
+			t.Errorf("%s of the rank %d: %d", c.text, c.rank, got)
+		}
+	}
+}
+
 func TestValue(t *testing.T) {
 	n := spell.Node("c = Constant(); then=Neg; value=i 2: 3 4")
 	if got, want := Value(n), spell.Tensor("i 2: 3 4"); !reflect.DeepEqual(got, want) {

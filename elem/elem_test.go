@@ -206,33 +206,7 @@ Neg; axis=1 | f: 1 | unsupported
 }
 
 func TestOperatorsOfOtherLayers(t *testing.T) {
-	expectLines(t, `
-ReduceSum | f 2: 1 2 | unsupported
-ReduceMax | i 2: 1 2 | unsupported
-ReduceMean | f 2: 1 2 | unsupported
-ArgMax | f 2: 1 2 | unsupported
-Softmax | f 2: 1 2 | unsupported
-Reshape; shape=1 2 | f 2: 1 2 | unsupported
-Expand; shape=2 | f: 1 | unsupported
-Transpose | f 2: 1 2 | unsupported
-Concat; axis=0 | f 2: 1 2 | unsupported
-Concat; axis=0 | f 2: 1 2, f 2: 1 2 | unsupported
-Concat; axis=0 | b 1: 1, b 1: 1, b 1: 1 | unsupported
-Slice; starts=0; ends=1 | f 2: 1 2 | unsupported
-Gather | i 1: 1, i 1: 0 | unsupported
-Pad; pads=0 0 | f 1: 1 | unsupported
-Squeeze; axes=0 | f 1: 1 | unsupported
-Unsqueeze; axes=0 | f 1: 1 | unsupported
-Flatten | f 1: 1 | unsupported
-MatMul | f 1 1: 1, f 1 1: 1 | unsupported
-Gemm | f 1 1: 1, f 1 1: 1, f: 1 | unsupported
-Conv | f 1 1 1 1: 1, f 1 1 1 1: 1 | unsupported
-MaxPool; kernel_shape=1 1 | f 1 1 1 1: 1 | unsupported
-AveragePool; kernel_shape=1 1 | f 1 1 1 1: 1 | unsupported
-GlobalAveragePool | f 1 1 1 1: 1 | unsupported
-BatchNormalization | f 1 1: 1, f 1: 1, f 1: 1, f 1: 1, f 1: 1 | unsupported
-Constant; value=i: 1 | | unsupported
-`)
+	expectLines(t, spell.Others("Identity Neg Abs Not Relu Sqrt Floor Exp Sigmoid Tanh Add Sub Mul Div Max Min And Or Xor Equal Less Greater Where Clip Cast"))
 }
 
 // R2: a tensor that may not be, then infer's error, then another layer's operator, then what is met at a place.

@@ -52,17 +52,6 @@ func randomTensor(r *rand.Rand, typ int, dims []int) api.Tensor {
 	return t
 }
 
-// narrowed are dims that are spread to others: some are 1 or, from the front on, not there.
-func narrowed(r *rand.Rand, dims []int) []int {
-	l := slices.Clone(dims)
-	for i := range l {
-		if r.Intn(3) == 0 {
-			l[i] = 1
-		}
-	}
-	return l[r.Intn(len(l)+1)*r.Intn(2):]
-}
-
 // node is a row's, with inputs that are spread to each other.
 func randomNode(r *rand.Rand, row string) (api.Node, []api.Tensor) {
 	op, letters, _ := strings.Cut(row, "|")
@@ -73,7 +62,7 @@ func randomNode(r *rand.Rand, row string) (api.Node, []api.Tensor) {
 	var in []api.Tensor
 	for i := range letters {
 		typ := spell.Value("x " + letters[i:i+1]).Type
-		in = append(in, randomTensor(r, typ, narrowed(r, dims)))
+		in = append(in, randomTensor(r, typ, spell.Narrowed(dims, r.Intn)))
 	}
 	text := op
 	if op == "Cast" {
@@ -174,10 +163,6 @@ func slowDo(n api.Node, in []api.Tensor) (api.Tensor, api.Errno) {
 	return out, api.OK
 }
 
-func same(a, b api.Tensor) bool {
-	return a.Type == b.Type && slices.Equal(a.Dims, b.Dims) && slices.Equal(a.Data, b.Data)
-}
-
 func TestAgainstTheDefinition(t *testing.T) {
 	r := rand.New(rand.NewSource(9))
 	for _, row := range strings.Fields(rows) {
@@ -185,7 +170,7 @@ func TestAgainstTheDefinition(t *testing.T) {
 			n, in := randomNode(r, row)
 			got, e := Do(n, in)
 			want, wantError := slowDo(n, in)
-			if e != wantError || !same(got, want) {
+			if e != wantError || !spell.Same(got, want) {
 				t.Fatalf("P9.1: %s of %v: %v, %d, not %v, %d", row, in, got, e, want, wantError)
 			}
 			if e == api.OK && pb.Check(got) != api.OK {

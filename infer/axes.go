@@ -22,9 +22,9 @@ func axesOf(axes []int64, rank int) []bool {
 	return is
 }
 
-func reduced(n api.Node, x []int, axes []int64) []int {
+func reduced(n api.Node, x []int) []int {
 	keep := isOn(schema.Int(n, "keepdims", 1))
-	gone := axesOf(axes, len(x))
+	gone := axesOf(attr.Along(n, len(x)), len(x))
 	var dims []int
 	for i, d := range x {
 		switch {

@@ -18,12 +18,10 @@ func dimsMade(n api.Node, in []api.Value) []int {
 	case "Where":
 		return spread(spread(x, in[1].Dims), in[2].Dims)
 	case "Softmax":
-		axisOf(schema.Int(n, "axis", -1), len(x))
+		axesOf(attr.Along(n, len(x)), len(x))
 		return x
-	case "ReduceSum", "ReduceMax", "ReduceMean":
-		return reduced(n, x, schema.Ints(n, "axes", attr.UpTo(len(x))))
-	case "ArgMax":
-		return reduced(n, x, []int64{schema.Int(n, "axis", 0)})
+	case "ReduceSum", "ReduceMax", "ReduceMean", "ArgMax":
+		return reduced(n, x)
 	case "Reshape":
 		return reshaped(x, schema.Ints(n, "shape", nil))
 	case "Expand":

@@ -232,29 +232,7 @@ Reshape | i: 1 | graph
 }
 
 func TestOperatorsOfOtherLayers(t *testing.T) {
-	expectLines(t, `
-Identity | f: 1 | unsupported
-Neg | i: 1 | unsupported
-Not | b: 1 | unsupported
-Add | i: 1, i: 1 | unsupported
-Equal | i: 1, i: 1 | unsupported
-Div | i: 1, i: 0 | unsupported
-Where | b: 1, i: 1, i: 0 | unsupported
-Clip | f: 1 | unsupported
-Cast; to=1 | f: 1 | unsupported
-ReduceSum | f 2: 1 2 | unsupported
-ReduceMax | i 2: 1 2 | unsupported
-ReduceMean | f 2: 1 2 | unsupported
-ArgMax | f 2: 1 2 | unsupported
-Softmax | f 2: 1 2 | unsupported
-MatMul | f 1 1: 1, f 1 1: 1 | unsupported
-Gemm | f 1 1: 1, f 1 1: 1, f: 1 | unsupported
-Conv | f 1 1 1 1: 1, f 1 1 1 1: 1 | unsupported
-MaxPool; kernel_shape=1 1 | f 1 1 1 1: 1 | unsupported
-AveragePool; kernel_shape=1 1 | f 1 1 1 1: 1 | unsupported
-GlobalAveragePool | f 1 1 1 1: 1 | unsupported
-BatchNormalization | f 1 1: 1, f 1: 1, f 1: 1, f 1: 1, f 1: 1 | unsupported
-`)
+	expectLines(t, spell.Others(operators))
 }
 
 // R2: a tensor that may not be, then infer's error, then another layer's operator, then what is met at a place.

@@ -12,23 +12,6 @@ import (
 	"mandrel/spell"
 )
 
-func product(dims []int) int {
-	n := 1
-	for _, d := range dims {
-		n *= d
-	}
-	return n
-}
-
-// coordsOf are those of the element number i.
-func coordsOf(dims []int, i int) []int {
-	c := make([]int, len(dims))
-	for k := range dims {
-		c[k] = i / product(dims[k+1:]) % dims[k]
-	}
-	return c
-}
-
 // at is a tensor's element at coordinates; false, if there is none.
 func at(t api.Tensor, c []int) (int64, bool) {
 	i := 0
@@ -36,7 +19,7 @@ func at(t api.Tensor, c []int) (int64, bool) {
 		if c[k] < 0 || c[k] >= d {
 			return 0, false
 		}
-		i += c[k] * product(t.Dims[k+1:])
+		i += c[k] * spell.Size(t.Dims[k+1:])
 	}
 	return t.Data[i], true
 }
@@ -170,8 +153,8 @@ func slowDo(n api.Node, in []api.Tensor) (api.Tensor, api.Errno) {
 		return api.Tensor{}, e
 	}
 	t := api.Tensor{Type: out.Type, Dims: out.Dims}
-	for i := range product(out.Dims) {
-		x, e := slowElement(n, in, coordsOf(out.Dims, i), i)
+	for i := range spell.Size(out.Dims) {
+		x, e := slowElement(n, in, spell.Coords(out.Dims, i), i)
 		if e != api.OK {
 			return api.Tensor{}, e
 		}
@@ -195,7 +178,7 @@ func someInt(r *rand.Rand, name string, least, most int) api.Attr {
 // numbered has elements that are all unlike.
 func numbered(typ int, dims []int) api.Tensor {
 	t := api.Tensor{Type: typ, Dims: dims}
-	for i := range product(dims) {
+	for i := range spell.Size(dims) {
 		t.Data = append(t.Data, int64(100+i))
 	}
 	if typ == api.Bool {
@@ -279,7 +262,7 @@ func someNode(r *rand.Rand, op string) (api.Node, []api.Tensor) {
 		in = nil
 	case "Gather":
 		index := api.Tensor{Type: api.Int32 + r.Intn(2), Dims: someDims(r, r.Intn(3))}
-		for range product(index.Dims) {
+		for range spell.Size(index.Dims) {
 			index.Data = append(index.Data, int64(r.Intn(5)-2))
 		}
 		in = append(in, index)
@@ -299,10 +282,6 @@ func someNode(r *rand.Rand, op string) (api.Node, []api.Tensor) {
 
 const operators = "Reshape Expand Transpose Concat Slice Gather Pad Squeeze Unsqueeze Flatten Constant"
 
-func same(a, b api.Tensor) bool {
-	return a.Type == b.Type && slices.Equal(a.Dims, b.Dims) && slices.Equal(a.Data, b.Data)
-}
-
 func TestAgainstTheDefinition(t *testing.T) {
 	r := rand.New(rand.NewSource(10))
 	for _, op := range strings.Fields(operators) {
@@ -311,7 +290,7 @@ func TestAgainstTheDefinition(t *testing.T) {
 			n, in := someNode(r, op)
 			got, e := Do(n, in)
 			want, wantError := slowDo(n, in)
-			if e != wantError || !same(got, want) {
+			if e != wantError || !spell.Same(got, want) {
 				t.Fatalf("P10.1: %v of %v: %v, %d, not %v, %d", n, in, got, e, want, wantError)
 			}
 			if e == api.OK {
@@ -365,7 +344,7 @@ func TestOppositeOrders(t *testing.T) {
 		for i, p := range perm {
 			opposite[p] = i
 		}
-		if y := transposed(t, transposed(t, x, perm), opposite); !same(x, y) {
+		if y := transposed(t, transposed(t, x, perm), opposite); !spell.Same(x, y) {
 			t.Fatalf("P10.2: %v by %d and its opposite: %v", x, perm, y)
 		}
 	}

@@ -12,9 +12,11 @@ import (
 	"mandrel/elem"
 	"mandrel/graph"
 	"mandrel/infer"
+	"mandrel/linear"
 	"mandrel/move"
 	"mandrel/num"
 	"mandrel/pb"
+	"mandrel/reduce"
 	"mandrel/schema"
 	"mandrel/shape"
 	"mandrel/spell"
@@ -128,11 +130,14 @@ func tensorCalls() []call {
 		"Reshape; shape=1 -1 | i 2: 1 2", "Reshape; shape=2 | i 2: 1 2", "Expand; shape=2 | i 2: 1 2", "Expand; shape=2 2 | i 2: 1 2", "Transpose; perm=0 | i 2: 1 2", "Transpose | i 2 1: 1 2",
 		"Concat; axis=0 | i 2: 1 2", "Concat; axis=0 | i 2: 1 2, i 1: 3", "Slice; starts=0; ends=2; axes=0 | i 2: 1 2", "Slice; starts=; ends= | i 2: 1 2", "Gather | i 2: 1 2, i 2: 0 1", "Gather | i 2: 1 2, i: -1", "Gather | i 2: 1 2, i: 2",
 		"Pad; pads=0 0 | f 2: 1 2", "Pad; pads=1 2; value=3 | f 2: 1 2", "Squeeze; axes=0 | i 1 2: 1 2", "Squeeze; axes= | i 2: 1 2", "Unsqueeze; axes=0 | i 2: 1 2", "Unsqueeze; axes= | i 2: 1 2", "Flatten | i 2 1: 1 2", "Constant; value=i 2: 1 2 |",
+		"ReduceSum | i 2 2: 1 2 3 4", "ReduceSum; axes= | i 2: 1 2", "ReduceMean; axes=0; keepdims=0; then=Neg | f 2 2: 1 2 3 4", "ReduceMax; axes=-1 | l 2 2: 1 2 3 4", "ArgMax; axis=1 | f 2 2: 1 2 nan 4",
+		"Softmax | f 2: 1 2", "Softmax; axis=0 | f 1 2: 1 2", "BatchNormalization; epsilon=1 | f 1 2: 1 2, f 2: 1 2, f 2: 1 2, f 2: 1 2, f 2: 1 2", "ReduceMean | i 2: 1 2", "Softmax | f: 1",
+		"MatMul | f 1 2: 1 2, f 2 1: 3 4", "MatMul | f 2 1 2: 1 2 3 4, f 2 1: 3 4", "MatMul | f 1 2: 1 2, f 1 2: 3 4", "Gemm | f 1 1: 2, f 1 1: 3", "Gemm; transA=1; transB=1; alpha=2; beta=3; then=Neg | f 2 1: 1 2, f 1 2: 3 4, f 1: 5", "Gemm | f 2 1: 1 2, f 1 2: 3 4, f 2 2: 5 6 7 8",
 	} {
 		node, in, _ := strings.Cut(text, "|")
 		tensors := spell.Tensors(in)
 		n := spell.Op(node, len(tensors))
-		for name, do := range map[string]doNode{"elem.Do": elem.Do, "move.Do": move.Do} {
+		for name, do := range map[string]doNode{"elem.Do": elem.Do, "move.Do": move.Do, "reduce.Do": reduce.Do, "linear.Do": linear.Do} {
 			l = append(l, of(name+" of "+text, do, n, tensors))
 		}
 	}

@@ -48,6 +48,73 @@ func Word(e api.Errno) string {
 	return "error " + strconv.Itoa(int(e))
 }
 
+// wellFormed has a node of each operator, and inputs such as it has.
+const wellFormed = `
+Identity | f: 1
+Neg | i: 1
+Abs | l: 1
+Not | b: 1
+Relu | f: 1
+Sqrt | f: 1
+Floor | f: 1
+Exp | f: 1
+Sigmoid | f: 1
+Tanh | f: 1
+Add | i: 1, i: 1
+Sub | i: 1, i: 1
+Mul | i: 1, i: 1
+Div | i: 1, i: 0
+Max | i: 1, i: 1
+Min | i: 1, i: 1
+And | b: 1, b: 1
+Or | b: 1, b: 1
+Xor | b: 1, b: 1
+Equal | i: 1, i: 1
+Less | i: 1, i: 1
+Greater | i: 1, i: 1
+Where | b: 1, i: 1, i: 0
+Clip | f: 1
+Cast; to=1 | f: 1
+ReduceSum | f 2: 1 2
+ReduceMax | i 2: 1 2
+ReduceMean | f 2: 1 2
+ArgMax | f 2: 1 2
+Reshape; shape=1 2 | f 2: 1 2
+Expand; shape=2 | f: 1
+Transpose | f 2: 1 2
+Concat; axis=0 | f 2: 1 2
+Concat; axis=0 | b 1: 1, b 1: 1, b 1: 1
+Slice; starts=0; ends=1 | f 2: 1 2
+Gather | i 1: 1, i 1: 5
+Pad; pads=0 0 | f 1: 1
+Squeeze; axes=0 | f 1: 1
+Unsqueeze; axes=0 | f 1: 1
+Flatten | f 1: 1
+Softmax | f 2: 1 2
+MatMul | f 1 1: 1, f 1 1: 1
+Gemm | f 1 1: 1, f 1 1: 1
+Gemm | f 1 1: 1, f 1 1: 1, f: 1
+Conv | f 1 1 1 1: 1, f 1 1 1 1: 1
+Conv | f 1 1 1 1: 1, f 1 1 1 1: 1, f 1: 1
+MaxPool; kernel_shape=1 1 | f 1 1 1 1: 1
+AveragePool; kernel_shape=1 1 | f 1 1 1 1: 1
+GlobalAveragePool | f 1 1 1 1: 1
+BatchNormalization | f 1 1: 1, f 1: 1, f 1: 1, f 1: 1, f 1: 1
+Constant; value=i: 1 |
+`
+
+// Others are lines for Unlike: of each operator but a layer's own, which has none of them.
+func Others(own string) string {
+	var lines []string
+	for _, line := range pieces(wellFormed, "\n") {
+		op, _, _ := strings.Cut(line, " ")
+		if !slices.Contains(strings.Fields(own), strings.TrimSuffix(op, ";")) {
+			lines = append(lines, line+" | unsupported")
+		}
+	}
+	return strings.Join(lines, "\n")
+}
+
 // Unlike holds what a layer does against lines such as `Add | i 2: 1 2, i: 3 | i 2: 4 5`: a node, its inputs, and what comes out, or the word of the error. It tells of those that are not met.
 func Unlike(do Do, lines string) []string {
 	var l []string

@@ -2,9 +2,11 @@ package spell
 
 import (
 	"reflect"
+	"strings"
 	"testing"
 
 	"mandrel/api"
+	"mandrel/begin"
 )
 
 func TestOp(t *testing.T) {
@@ -57,6 +59,33 @@ func TestUnlike(t *testing.T) {
 		}
 		if got := Unlike(do, "\nAdd | i: 1, i: 2 | "+c.want+"\n"); len(got) == 0 != c.same {
 			t.Errorf("%v, %d against %q: %q", c.out, c.e, c.want, got)
+		}
+	}
+}
+
+// Each operator's node begins well, so that a layer refuses it for its operator alone.
+func TestOthers(t *testing.T) {
+	lines := pieces(Others(""), "\n")
+	ops := map[string]int{}
+	for _, line := range lines {
+		part := strings.Split(line, "|")
+		in := Tensors(part[1])
+		n := Op(part[0], len(in))
+		ops[n.Op]++
+		if _, e := begin.Node(n, in); e != api.OK || strings.TrimSpace(part[2]) != "unsupported" {
+			t.Errorf("%s: begins with %d", line, e)
+		}
+	}
+	if len(ops) != 48 {
+		t.Errorf("%d operators", len(ops))
+	}
+	others := Others("Add Concat Cast")
+	if got, want := len(pieces(others, "\n")), len(lines)-4; got != want {
+		t.Errorf("without four lines: %d, not %d", got, want)
+	}
+	for _, op := range []string{"Add", "Concat", "Cast"} {
+		if strings.Contains(others, op) {
+			t.Errorf("%s is among the others", op)
 		}
 	}
 }
