@@ -9,14 +9,10 @@ import (
 	"unsafe"
 
 	"mandrel/api"
-	"mandrel/elem"
 	"mandrel/graph"
 	"mandrel/infer"
-	"mandrel/linear"
-	"mandrel/move"
 	"mandrel/num"
 	"mandrel/pb"
-	"mandrel/reduce"
 	"mandrel/schema"
 	"mandrel/shape"
 	"mandrel/spell"
@@ -137,8 +133,8 @@ func tensorCalls() []call {
 		node, in, _ := strings.Cut(text, "|")
 		tensors := spell.Tensors(in)
 		n := spell.Op(node, len(tensors))
-		for name, do := range map[string]doNode{"elem.Do": elem.Do, "move.Do": move.Do, "reduce.Do": reduce.Do, "linear.Do": linear.Do} {
-			l = append(l, of(name+" of "+text, do, n, tensors))
+		for _, c := range doers() {
+			l = append(l, of(c.name+" of "+text, c.do, n, tensors))
 		}
 	}
 	return l
