@@ -70,6 +70,15 @@ func Along(n api.Node, rank int) []int64 {
 	return schema.Ints(n, "axes", UpTo(rank))
 }
 
+// Strides are how far a window of a Conv, or of a pool, goes to the next one, in the height and in the width.
+func Strides(n api.Node) []int64 { return schema.Ints(n, "strides", []int64{1, 1}) }
+
+// Dilations are how far a window's places stand apart, in the height and in the width. Pools have no such attribute.
+func Dilations(n api.Node) []int64 { return schema.Ints(n, "dilations", []int64{1, 1}) }
+
+// Pads are those ahead in the height and in the width, then those behind.
+func Pads(n api.Node) []int64 { return schema.Ints(n, "pads", make([]int64, 4)) }
+
 // Value is that of a Constant; its lists are the node's own.
 func Value(n api.Node) api.Tensor {
 	for _, a := range n.Attrs {

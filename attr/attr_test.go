@@ -101,6 +101,23 @@ func TestAlong(t *testing.T) {
 	}
 }
 
+func TestWindows(t *testing.T) {
+	for _, c := range []struct {
+		text                     string
+		strides, dilations, pads []int64
+	}{
+		{"Conv", []int64{1, 1}, []int64{1, 1}, []int64{0, 0, 0, 0}},
+		{"Conv; strides=2 3; dilations=4 5; pads=6 7 8 9", []int64{2, 3}, []int64{4, 5}, []int64{6, 7, 8, 9}},
+		{"MaxPool; strides=3 2", []int64{3, 2}, []int64{1, 1}, []int64{0, 0, 0, 0}},
+		{"Conv; strides=; pads=-1", nil, []int64{1, 1}, []int64{-1}},
+	} {
+		n := spell.Op(c.text, 2)
+		if s, d, p := Strides(n), Dilations(n), Pads(n); !slices.Equal(s, c.strides) || !slices.Equal(d, c.dilations) || !slices.Equal(p, c.pads) {
+			t.Errorf("%s: strides %d, dilations %d, pads %d", c.text, s, d, p)
+		}
+	}
+}
+
 func TestValue(t *testing.T) {
 	n := spell.Node("c = Constant(); then=Neg; value=i 2: 3 4")
 	if got, want := Value(n), spell.Tensor("i 2: 3 4"); !reflect.DeepEqual(got, want) {

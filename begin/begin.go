@@ -1,7 +1,9 @@
-// Package begin has what every layer that does nodes begins with.
+// Package begin has what every layer that does nodes, or runs graphs, begins with.
 package begin
 
 import (
+	"slices"
+
 	"mandrel/api"
 	"mandrel/infer"
 	"mandrel/pb"
@@ -33,4 +35,17 @@ func Node(n api.Node, in []api.Tensor) (api.Value, api.Errno) {
 		values = append(values, api.Value{Type: t.Type, Dims: t.Dims})
 	}
 	return infer.Out(n, values)
+}
+
+// Fit tells whether tensors are such as a graph with these inputs takes.
+func Fit(inputs []api.Value, in []api.Tensor) bool {
+	if len(in) != len(inputs) {
+		return false
+	}
+	for i, t := range in {
+		if pb.Check(t) != api.OK || t.Type != inputs[i].Type || !slices.Equal(t.Dims, inputs[i].Dims) {
+			return false
+		}
+	}
+	return true
 }

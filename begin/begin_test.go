@@ -91,3 +91,40 @@ func TestDo(t *testing.T) {
 		t.Errorf("R3: %v, %d", got, e)
 	}
 }
+
+func TestFit(t *testing.T) {
+	inputs := []api.Value{spell.Value("x f 2 1"), spell.Value("n l")}
+	for in, want := range map[string]bool{
+		"f 2 1: 1 nan, l: -5":        true,
+		"":                           false,
+		"f 2 1: 1 2":                 false,
+		"f 2 1: 1 2, l: 5, l: 5":     false,
+		"l: 5, f 2 1: 1 2":           false,
+		"f 2 1: 1 2, i: 5":           false,
+		"i 2 1: 1 2, l: 5":           false,
+		"f 1 2: 1 2, l: 5":           false,
+		"f 2: 1 2, l: 5":             false,
+		"f 2 1 1: 1 2, l: 5":         false,
+		"f 2 1: 1 2, l 1: 5":         false,
+		"f 2 1: 1, l: 5":             false,
+		"f 2 1: 1 2 3, l: 5":         false,
+		"f 2 1: 1 2, l:":             false,
+		"f 2 1: 1 2, l: 5 6":         false,
+		"f 0 1:, l: 5":               false,
+		"f 2 1 1 1 1 1 1: 1 2, l: 5": false,
+	} {
+		if got := Fit(inputs, spell.Tensors(in)); got != want {
+			t.Errorf("%q: %t", in, got)
+		}
+	}
+	wrong := []api.Tensor{{Type: api.Float, Dims: []int{2, 1}, Data: []int64{0, api.NaN + 1}}, spell.Tensor("l: 5")}
+	if Fit(inputs, wrong) || !Fit(nil, nil) {
+		t.Errorf("a tensor that may not be, or no inputs at all")
+	}
+	// A type or dims that no tensor has.
+	for _, text := range []string{"x 3 1", "x f 0", "x f -1"} {
+		if Fit([]api.Value{spell.Value(text)}, spell.Tensors("f 1: 1")) {
+			t.Errorf("%s is one", text)
+		}
+	}
+}

@@ -2,6 +2,7 @@ package infer
 
 import (
 	"mandrel/api"
+	"mandrel/attr"
 	"mandrel/schema"
 )
 
@@ -23,7 +24,7 @@ func convolved(n api.Node, in []api.Value) []int {
 
 func pooled(n api.Node, x []int) []int {
 	must(len(x) == 4)
-	kernel := numbers(n, "kernel_shape", ones(), 1)
+	kernel := within(schema.Ints(n, "kernel_shape", nil), 2, 1)
 	for i, p := range padsOf(n) {
 		must(p < kernel[i%2])
 	}
@@ -32,23 +33,19 @@ func pooled(n api.Node, x []int) []int {
 
 // placesOf is at how many places the kernel stands along the height (0) or the width (1). Pools have no dilations, so that the default ones count.
 func placesOf(n api.Node, x []int, kernel []int64, along int) int {
-	stride := numbers(n, "strides", ones(), 1)[along]
-	dilation := numbers(n, "dilations", ones(), 1)[along]
+	stride := within(attr.Strides(n), 2, 1)[along]
+	dilation := within(attr.Dilations(n), 2, 1)[along]
 	pads := padsOf(n)
 	rest := int64(x[2+along]) + pads[along] + pads[2+along] - dilation*(kernel[along]-1) - 1
 	must(rest >= 0)
 	return int(rest/stride + 1)
 }
 
-// padsOf are those ahead in the height, in the width, then those behind.
-func padsOf(n api.Node) []int64 { return numbers(n, "pads", make([]int64, 4), 0) }
+func padsOf(n api.Node) []int64 { return within(attr.Pads(n), 4, 0) }
 
-func ones() []int64 { return []int64{1, 1} }
-
-// numbers are an attribute's, as many as those that stand for it, each within bounds.
-func numbers(n api.Node, name string, other []int64, least int64) []int64 {
-	l := schema.Ints(n, name, other)
-	must(len(l) == len(other))
+// within are an attribute's numbers, if they are so many, each within bounds.
+func within(l []int64, many int, least int64) []int64 {
+	must(len(l) == many)
 	for _, x := range l {
 		must(x >= least && x <= maxWindow)
 	}

@@ -14,6 +14,7 @@ import (
 	"mandrel/num"
 	"mandrel/pb"
 	"mandrel/schema"
+	"mandrel/sem"
 	"mandrel/shape"
 	"mandrel/spell"
 	"mandrel/view"
@@ -74,7 +75,30 @@ func calls() []call {
 		l = append(l, of("infer.All", infer.All, g))
 	}
 	l = append(l, nodeCalls("infer.Out", infer.Out)...)
+	l = append(l, evalCalls()...)
 	return append(l, tensorCalls()...)
+}
+
+// evalCalls have graphs whose outputs are made by nodes, or are inputs and initializers themselves, and such as have an error.
+func evalCalls() []call {
+	var l []call
+	for _, text := range []string{
+		"in x i 2 | i 2: 1 2\nout x i 2",
+		"in x i 2 | i 2: 1 2\ninit w f 2: 1 2\ny = Identity(x)\nz = Identity(y)\nout w f 2\nout z i 2\nout y i 2\nout x i 2",
+		"in x i 2 | i 2: 1 2\nz = Neg(y)\ny = Add(x, x)\nc = Constant(); value=i 2: 1 2\nout c i 2\nout z i 2",
+		"in x i 2 | i 2: 1 2\nz = Reshape(x); shape=1 2; then=Neg\nout z i 1 2",
+		"in x i 2 | i 2: 1 0\nz = Div(x, x)\nout x i 2",
+		"in x i 2 | i 2: 1 0\nz = Gather(x, x)\ny = Gather(z, z)\nw = Gather(x, y)\nv = Add(x, x)\nu = Gather(x, v)\nout x i 2",
+		"in x i 2 | i 2: 1\nout x i 2",
+		"in x i 2 | l 2: 1 2\nout x i 2",
+		"in x i 2 |\nout x i 2",
+		"in x i 2 | i 2: 1 2\nout x i 3",
+	} {
+		line, rest, _ := strings.Cut(text, "\n")
+		input, tensors, _ := strings.Cut(line, "|")
+		l = append(l, of("sem.Eval of "+text, sem.Eval, spell.Graph(input+"\n"+rest), spell.Tensors(tensors)))
+	}
+	return l
 }
 
 func graphs() []api.Graph {
@@ -128,6 +152,9 @@ func tensorCalls() []call {
 		"Pad; pads=0 0 | f 2: 1 2", "Pad; pads=1 2; value=3 | f 2: 1 2", "Squeeze; axes=0 | i 1 2: 1 2", "Squeeze; axes= | i 2: 1 2", "Unsqueeze; axes=0 | i 2: 1 2", "Unsqueeze; axes= | i 2: 1 2", "Flatten | i 2 1: 1 2", "Constant; value=i 2: 1 2 |",
 		"ReduceSum | i 2 2: 1 2 3 4", "ReduceSum; axes= | i 2: 1 2", "ReduceMean; axes=0; keepdims=0; then=Neg | f 2 2: 1 2 3 4", "ReduceMax; axes=-1 | l 2 2: 1 2 3 4", "ArgMax; axis=1 | f 2 2: 1 2 nan 4",
 		"Softmax | f 2: 1 2", "Softmax; axis=0 | f 1 2: 1 2", "BatchNormalization; epsilon=1 | f 1 2: 1 2, f 2: 1 2, f 2: 1 2, f 2: 1 2, f 2: 1 2", "ReduceMean | i 2: 1 2", "Softmax | f: 1",
+		"Conv | f 1 1 1 2: 1 2, f 1 1 1 2: 3 4", "Conv; strides=1 1; pads=1 1 1 1; dilations=1 1; group=1; then=Relu,Neg | f 1 1 1 2: 1 2, f 2 1 1 2: 3 4 5 6, f 2: 7 8", "Conv | f 1 1 1 1: 1, f 1 2 1 1: 1 2",
+		"MaxPool; kernel_shape=1 1 | f 1 1 1 2: 1 2", "MaxPool; kernel_shape=1 2; pads=0 1 0 1 | f 1 1 1 2: 1 2", "AveragePool; kernel_shape=1 1; strides=1 1; then=Neg | f 1 1 1 2: 1 2", "GlobalAveragePool | f 1 1 1 1: 1", "GlobalAveragePool | f 1 1 1 2: 1 2", "MaxPool; kernel_shape=2 1 | f 1 1 1 1: 1",
+		"Constant; value=i 2: 1 2; then=Neg |", "Identity; then=Identity | f 2: 1 2", "Reshape; shape=2; then=Neg,Abs | i 2: 1 2",
 		"MatMul | f 1 2: 1 2, f 2 1: 3 4", "MatMul | f 2 1 2: 1 2 3 4, f 2 1: 3 4", "MatMul | f 1 2: 1 2, f 1 2: 3 4", "Gemm | f 1 1: 2, f 1 1: 3", "Gemm; transA=1; transB=1; alpha=2; beta=3; then=Neg | f 2 1: 1 2, f 1 2: 3 4, f 1: 5", "Gemm | f 2 1: 1 2, f 1 2: 3 4, f 2 2: 5 6 7 8",
 	} {
 		node, in, _ := strings.Cut(text, "|")

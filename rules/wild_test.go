@@ -8,17 +8,20 @@ import (
 	"testing"
 
 	"mandrel/api"
+	"mandrel/conv"
 	"mandrel/elem"
 	"mandrel/linear"
 	"mandrel/move"
 	"mandrel/pb"
 	"mandrel/reduce"
+	"mandrel/sample"
+	"mandrel/sem"
 	"mandrel/spell"
 )
 
 // doers are the layers that do nodes, of those that are built.
 func doers() []call {
-	return []call{of("elem.Do", elem.Do), of("move.Do", move.Do), of("reduce.Do", reduce.Do), of("linear.Do", linear.Do)}
+	return []call{of("elem.Do", elem.Do), of("move.Do", move.Do), of("reduce.Do", reduce.Do), of("linear.Do", linear.Do), of("conv.Do", conv.Do), of("sem.Do", sem.Do)}
 }
 
 func wildNumber(r *rand.Rand) int64 {
@@ -36,7 +39,7 @@ func wildAttr(r *rand.Rand, a *api.Attr) {
 	case 2:
 		a.Ints = append(a.Ints, wildNumber(r))
 	case 3:
-		a.Name = []string{"axis", "axes", "keepdims", "epsilon", "alpha", "transA", "then", ""}[r.Intn(8)]
+		a.Name = []string{"axis", "axes", "keepdims", "epsilon", "alpha", "transA", "then", "", "strides", "pads", "dilations", "group", "kernel_shape"}[r.Intn(13)]
 	case 4:
 		a.T = wildTensor(r, a.T)
 	default:
@@ -120,5 +123,72 @@ func TestWildNodes(t *testing.T) {
 	}
 	if done < 1000 {
 		t.Errorf("only %d of them were done", done)
+	}
+}
+
+// wildGraph changes some things of a graph, whose nodes' and values' lists are its own.
+func wildGraph(r *rand.Rand, g *api.Graph) {
+	for range r.Intn(4) {
+		switch r.Intn(8) {
+		case 0:
+			g.Out = append(g.Out, api.Value{Name: "v1", Type: wildType(r)})
+		case 1:
+			g.In = append(g.In, api.Value{Name: "x0", Type: wildType(r)})
+		case 2:
+			g.Inits = append(g.Inits, api.Named{Name: "w", T: wildTensor(r, spell.Tensor("f 1: 1"))})
+		case 3:
+			g.Nodes = append(g.Nodes, api.Node{Op: "Neg", In: []string{"v3"}, Out: "v2"})
+		case 4:
+			if len(g.Nodes) > 0 {
+				n := &g.Nodes[r.Intn(len(g.Nodes))]
+				n.Op = strings.Fields(sample.All + " What")[r.Intn(49)]
+			}
+		case 5:
+			if len(g.Nodes) > 0 {
+				n := &g.Nodes[r.Intn(len(g.Nodes))]
+				n.Attrs = append(n.Attrs, api.Attr{})
+				wildAttr(r, &n.Attrs[len(n.Attrs)-1])
+			}
+		case 6:
+			if len(g.Nodes) > 0 {
+				n := &g.Nodes[r.Intn(len(g.Nodes))]
+				n.In = append(n.In, n.Out)
+			}
+		default:
+			g.Out = g.Out[:r.Intn(len(g.Out)+1)]
+		}
+	}
+}
+
+func wildType(r *rand.Rand) int { return r.Intn(11) }
+
+// R1: no graph and no tensors make a run panic, and what comes out may be.
+func TestWildGraphs(t *testing.T) {
+	r := rand.New(rand.NewSource(2))
+	answers := map[api.Errno]int{}
+	for range 5000 {
+		g := sample.Graph(r.Intn, r.Intn(8), sample.All)
+		in := sample.Inputs(r.Intn, g)
+		wildGraph(r, &g)
+		for i := range in {
+			if r.Intn(8) == 0 {
+				in[i] = wildTensor(r, in[i])
+			}
+		}
+		out, e := sem.Eval(g, in)
+		answers[e]++
+		if e != api.OK && len(out) != 0 || e == api.OK && len(out) != len(g.Out) {
+			t.Fatalf("R3: %v of %v: %v, %d", g, in, out, e)
+		}
+		for _, x := range out {
+			if pb.Check(x) != api.OK {
+				t.Fatalf("P14.3: %v of %v: %v", g, in, out)
+			}
+		}
+	}
+	for _, e := range []api.Errno{api.OK, api.ErrArg, api.ErrGraph, api.ErrUnsupported} {
+		if answers[e] < 100 {
+			t.Errorf("errors: %v", answers)
+		}
 	}
 }
