@@ -1,4 +1,4 @@
-// Package begin has what every layer that does nodes, or runs graphs, begins with.
+// Package begin has what every layer that does nodes, runs graphs, or makes other graphs of them, begins with.
 package begin
 
 import (

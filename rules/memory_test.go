@@ -2,6 +2,7 @@ package rules
 
 import (
 	"cmp"
+	"math/rand"
 	"reflect"
 	"slices"
 	"strings"
@@ -13,6 +14,7 @@ import (
 	"mandrel/infer"
 	"mandrel/num"
 	"mandrel/pb"
+	"mandrel/sample"
 	"mandrel/schema"
 	"mandrel/sem"
 	"mandrel/shape"
@@ -76,7 +78,38 @@ func calls() []call {
 	}
 	l = append(l, nodeCalls("infer.Out", infer.Out)...)
 	l = append(l, evalCalls()...)
+	l = append(l, passCalls()...)
 	return append(l, tensorCalls()...)
+}
+
+// passCalls have graphs of which passes leave something as it is, take something away, and put something together, and graphs of all kinds.
+func passCalls() []call {
+	l := graphs()
+	for _, text := range []string{
+		"in x i 2\ninit w i 2: 5 6\ny = Add(v, x)\nv = Neg(w)\nu = Neg(w)\nout y i 2\nout w i 2",
+		"in x i 2\ninit w i 2: 5 6\ninit o i: 0\nd = Div(w, o)\nz = Identity(w)\ny = Reshape(x); shape=2; then=Neg\nout z i 2\nout y i 2",
+		"in x f 2\nz = Neg(b)\nb = Abs(a)\na = Add(x, x)\nd = Neg(c)\nc = Mul(x, x)\nf = Exp(e)\ne = Clip(x); then=Neg; min=1\nout z f 2\nout d f 2\nout f f 2",
+		"c = Constant(); value=i 2: 1 2\nz = Neg(c)\nout z i 2",
+		"init w i 2: 1 2\nout w i 2",
+	} {
+		l = append(l, spell.Graph(text))
+	}
+	r := rand.New(rand.NewSource(3))
+	for range 100 {
+		g := sample.Graph(r.Intn, r.Intn(12), sample.All)
+		g.Name = "graph"
+		for i := range g.Nodes {
+			g.Nodes[i].Name = "node"
+		}
+		l = append(l, g)
+	}
+	var calls []call
+	for _, c := range graphPasses() {
+		for _, g := range l {
+			calls = append(calls, of(c.name, c.do, g))
+		}
+	}
+	return calls
 }
 
 // evalCalls have graphs whose outputs are made by nodes, or are inputs and initializers themselves, and such as have an error.

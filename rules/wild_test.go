@@ -10,6 +10,9 @@ import (
 	"mandrel/api"
 	"mandrel/conv"
 	"mandrel/elem"
+	"mandrel/fold"
+	"mandrel/fuse"
+	"mandrel/infer"
 	"mandrel/linear"
 	"mandrel/move"
 	"mandrel/pb"
@@ -22,6 +25,11 @@ import (
 // doers are the layers that do nodes, of those that are built.
 func doers() []call {
 	return []call{of("elem.Do", elem.Do), of("move.Do", move.Do), of("reduce.Do", reduce.Do), of("linear.Do", linear.Do), of("conv.Do", conv.Do), of("sem.Do", sem.Do)}
+}
+
+// graphPasses are those that are built.
+func graphPasses() []call {
+	return []call{of("fold.Fold", fold.Fold), of("fold.Dead", fold.Dead), of("fuse.Fuse", fuse.Fuse)}
 }
 
 func wildNumber(r *rand.Rand) int64 {
@@ -187,6 +195,32 @@ func TestWildGraphs(t *testing.T) {
 		}
 	}
 	for _, e := range []api.Errno{api.OK, api.ErrArg, api.ErrGraph, api.ErrUnsupported} {
+		if answers[e] < 100 {
+			t.Errorf("errors: %v", answers)
+		}
+	}
+}
+
+// R1: no graph makes a pass panic; it is refused as infer.All refuses it, or what comes out may be.
+func TestWildPasses(t *testing.T) {
+	r := rand.New(rand.NewSource(4))
+	answers := map[api.Errno]int{}
+	for range 3000 {
+		g := sample.Graph(r.Intn, r.Intn(8), sample.All)
+		wildGraph(r, &g)
+		_, want := infer.All(g)
+		answers[want]++
+		for _, c := range graphPasses() {
+			h, e := c.do.(graphPass)(g)
+			if e != want || e != api.OK && !spell.SameGraphs(h, api.Graph{}) {
+				t.Fatalf("R3: %s of %v: %v, %d, not %d", c.name, g, h, e, want)
+			}
+			if _, e := infer.All(h); want == api.OK && e != api.OK {
+				t.Fatalf("P3: %s of %v: %v, which is refused: %d", c.name, g, h, e)
+			}
+		}
+	}
+	for _, e := range []api.Errno{api.OK, api.ErrGraph, api.ErrUnsupported} {
 		if answers[e] < 100 {
 			t.Errorf("errors: %v", answers)
 		}

@@ -1,10 +1,6 @@
 package spell
 
-import (
-	"slices"
-
-	"mandrel/api"
-)
+import "slices"
 
 // Size is how many elements dims have.
 func Size(dims []int) int {
@@ -33,9 +29,4 @@ func Narrowed(dims []int, pick func(int) int) []int {
 		}
 	}
 	return l[pick(len(l)+1)*pick(2):]
-}
-
-// Same tells whether two tensors are alike in all.
-func Same(a, b api.Tensor) bool {
-	return a.Type == b.Type && slices.Equal(a.Dims, b.Dims) && slices.Equal(a.Data, b.Data)
 }

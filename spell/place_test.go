@@ -3,8 +3,6 @@ package spell
 import (
 	"slices"
 	"testing"
-
-	"mandrel/api"
 )
 
 func TestCoords(t *testing.T) {
@@ -34,17 +32,5 @@ func TestNarrowed(t *testing.T) {
 		if got := Narrowed(dims, pick); !slices.Equal(got, c.want) || !slices.Equal(dims, []int{2, 3, 4}) {
 			t.Errorf("by %d: %d", c.picks, got)
 		}
-	}
-}
-
-func TestSame(t *testing.T) {
-	x := Tensor("i 2: 1 2")
-	for text, want := range map[string]bool{"i 2: 1 2": true, "l 2: 1 2": false, "i 1 2: 1 2": false, "i 2: 1 3": false} {
-		if Same(x, Tensor(text)) != want {
-			t.Errorf("%s: %t", text, !want)
-		}
-	}
-	if !Same(api.Tensor{}, api.Tensor{Dims: []int{}, Data: []int64{}}) {
-		t.Errorf("nothing and nothing are unlike")
 	}
 }
