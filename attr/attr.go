@@ -88,3 +88,8 @@ func Value(n api.Node) api.Tensor {
 	}
 	return api.Tensor{}
 }
+
+// ThenAt is where a node's then stands among its attributes, the first one, if there are several; below 0, if it has none.
+func ThenAt(n api.Node) int {
+	return slices.IndexFunc(n.Attrs, func(a api.Attr) bool { return a.Name == "then" && a.Kind == api.AttrString })
+}

@@ -129,3 +129,22 @@ func TestValue(t *testing.T) {
 		}
 	}
 }
+
+func TestThenAt(t *testing.T) {
+	for text, want := range map[string]int{
+		"Neg":                                   -1,
+		"Neg; then=Abs":                         0,
+		"Neg; then=":                            0,
+		"Slice; starts=0; then=Neg,Abs; ends=1": 1,
+		"Pad; pads=0 0; value=1; then=Neg":      2,
+		"Neg; axis=1; then=Neg; then=Abs":       1,
+	} {
+		if got := ThenAt(spell.Op(text, 1)); got != want {
+			t.Errorf("%s: %d", text, got)
+		}
+	}
+	n := api.Node{Attrs: []api.Attr{{Name: "then", Kind: api.AttrInt, S: "Neg"}, {Name: "Then", Kind: api.AttrString, S: "Neg"}}}
+	if got := ThenAt(n); got != -1 {
+		t.Errorf("%v: %d", n, got)
+	}
+}

@@ -16,6 +16,15 @@ type Pass = func(api.Graph) (api.Graph, api.Errno)
 
 // Broken are the things that a pass does not keep of a graph that may be, each in a word: none, if all is well. The meanings of both graphs are held against each other of each of some inputs, such as the graph has or not.
 func Broken(pass Pass, g api.Graph, inputs ...[]api.Tensor) []string {
+	l := Lost(pass, g, inputs...)
+	if !twiceIsOnce(pass, g) {
+		l = append(l, "twice")
+	}
+	return l
+}
+
+// Lost is Broken of passes that may go on, done a second time.
+func Lost(pass Pass, g api.Graph, inputs ...[]api.Tensor) []string {
 	h, e := pass(g)
 	if e != api.OK {
 		return []string{"error"}
@@ -30,15 +39,25 @@ func Broken(pass Pass, g api.Graph, inputs ...[]api.Tensor) []string {
 	if order, _ := graph.Order(h); !slices.IsSorted(order) {
 		l = append(l, "order")
 	}
-	if twice, e := pass(h); e != api.OK || !spell.SameGraphs(twice, h) {
-		l = append(l, "twice")
-	}
 	for _, in := range inputs {
 		if !sameMeaning(g, h, in) {
 			return append(l, "meaning")
 		}
 	}
 	return l
+}
+
+// twiceIsOnce is asked of what a pass made well alone: Lost tells of all else.
+func twiceIsOnce(pass Pass, g api.Graph) bool {
+	once, e := pass(g)
+	if e != api.OK {
+		return true
+	}
+	if _, e := infer.All(once); e != api.OK {
+		return true
+	}
+	twice, e := pass(once)
+	return e == api.OK && spell.SameGraphs(twice, once)
 }
 
 // InOrder is a graph that may be, with its nodes in the order of work.

@@ -39,6 +39,10 @@ func TestBroken(t *testing.T) {
 		if strings.Join(got, " ") != want {
 			t.Errorf("%s: %q, not %q", text, got, want)
 		}
+		lost := Lost(to(ends+text, api.OK), g, spell.Tensors("i: -3"), spell.Tensors("i: 4"), spell.Tensors("i: 0"))
+		if strings.Join(lost, " ") != want {
+			t.Errorf("%s: %q is lost, not %q", text, lost, want)
+		}
 	}
 	if got := Broken(to("", api.ErrGraph), g); !slices.Equal(got, []string{"error"}) {
 		t.Errorf("an error: %q", got)
@@ -73,6 +77,11 @@ func TestTwice(t *testing.T) {
 	}
 	if got := Broken(once, g); !slices.Equal(got, []string{"twice"}) {
 		t.Errorf("an error the second time: %q", got)
+	}
+	for _, pass := range []Pass{shorter, once} {
+		if got := Lost(pass, g, spell.Tensors("i: 1")); len(got) != 0 {
+			t.Errorf("nothing is lost the first time: %q", got)
+		}
 	}
 }
 

@@ -13,6 +13,7 @@ import (
 	"mandrel/graph"
 	"mandrel/infer"
 	"mandrel/num"
+	"mandrel/passes"
 	"mandrel/pb"
 	"mandrel/sample"
 	"mandrel/schema"
@@ -91,6 +92,8 @@ func passCalls() []call {
 		"in x f 2\nz = Neg(b)\nb = Abs(a)\na = Add(x, x)\nd = Neg(c)\nc = Mul(x, x)\nf = Exp(e)\ne = Clip(x); then=Neg; min=1\nout z f 2\nout d f 2\nout f f 2",
 		"c = Constant(); value=i 2: 1 2\nz = Neg(c)\nout z i 2",
 		"init w i 2: 1 2\nout w i 2",
+		"in x f 2 3\nz = Neg(c)\nc = Transpose(b)\nb = Transpose(a); perm=1 0\na = Identity(x)\nd = Add(a, a)\ne = Transpose(b); then=Neg\nout z f 2 3\nout e f 2 3\nout b f 3 2",
+		"in x f 2 3\nz = Reshape(b); shape=-1; then=Neg\nb = Unsqueeze(a); axes=0\na = Flatten(x)\nc = Expand(x); shape=1\nd = Mul(c, c)\ne = Squeeze(b); axes=0\nout z f 6\nout d f 2 3\nout e f 2 3\nout b f 1 2 3",
 	} {
 		l = append(l, spell.Graph(text))
 	}
@@ -108,6 +111,9 @@ func passCalls() []call {
 		for _, g := range l {
 			calls = append(calls, of(c.name, c.do, g))
 		}
+	}
+	for _, g := range l[:10] {
+		calls = append(calls, of("passes.Run", passes.Run, g, -1), of("passes.Run", passes.Run, g, 16))
 	}
 	return calls
 }

@@ -4,6 +4,7 @@ import (
 	"math"
 	"math/rand"
 	"slices"
+	"strconv"
 	"strings"
 	"testing"
 
@@ -13,8 +14,10 @@ import (
 	"mandrel/fold"
 	"mandrel/fuse"
 	"mandrel/infer"
+	"mandrel/layout"
 	"mandrel/linear"
 	"mandrel/move"
+	"mandrel/passes"
 	"mandrel/pb"
 	"mandrel/reduce"
 	"mandrel/sample"
@@ -27,9 +30,14 @@ func doers() []call {
 	return []call{of("elem.Do", elem.Do), of("move.Do", move.Do), of("reduce.Do", reduce.Do), of("linear.Do", linear.Do), of("conv.Do", conv.Do), of("sem.Do", sem.Do)}
 }
 
-// graphPasses are those that are built.
+// graphPasses are the passes, each by itself, and all that a mask has of them.
 func graphPasses() []call {
-	return []call{of("fold.Fold", fold.Fold), of("fold.Dead", fold.Dead), of("fuse.Fuse", fuse.Fuse)}
+	l := []call{of("fold.Fold", fold.Fold), of("fold.Dead", fold.Dead), of("fuse.Fuse", fuse.Fuse), of("layout.Plain", layout.Plain)}
+	for mask := range api.PassAll + 1 {
+		run := func(g api.Graph) (api.Graph, api.Errno) { return passes.Run(g, mask) }
+		l = append(l, of("passes.Run with "+strconv.Itoa(mask), run))
+	}
+	return l
 }
 
 func wildNumber(r *rand.Rand) int64 {
@@ -170,6 +178,9 @@ func wildGraph(r *rand.Rand, g *api.Graph) {
 
 func wildType(r *rand.Rand) int { return r.Intn(11) }
 
+// wildMask is one of 64 bits, or of fewer.
+func wildMask(r *rand.Rand) int { return int(r.Uint64()) >> r.Intn(64) }
+
 // R1: no graph and no tensors make a run panic, and what comes out may be.
 func TestWildGraphs(t *testing.T) {
 	r := rand.New(rand.NewSource(2))
@@ -217,6 +228,11 @@ func TestWildPasses(t *testing.T) {
 			}
 			if _, e := infer.All(h); want == api.OK && e != api.OK {
 				t.Fatalf("P3: %s of %v: %v, which is refused: %d", c.name, g, h, e)
+			}
+		}
+		if mask := wildMask(r); mask < 0 || mask > 15 {
+			if h, e := passes.Run(g, mask); e != api.ErrArg || !spell.SameGraphs(h, api.Graph{}) {
+				t.Fatalf("R3: passes.Run of %v, %d: %v, %d", g, mask, h, e)
 			}
 		}
 	}

@@ -48,7 +48,7 @@ func (m *maker) attrs(op string, dims []int) []api.Attr {
 	rank := len(dims)
 	switch op {
 	case "ReduceSum", "ReduceMax", "ReduceMean":
-		return m.maybe(m.someAxes("axes", rank), number("keepdims", m.pick(2)))
+		return m.maybe(m.someAxes(m.pick(rank+1), rank), number("keepdims", m.pick(2)))
 	case "ArgMax":
 		return m.maybe(number("axis", m.someAxis(rank)), number("keepdims", m.pick(2)))
 	case "Softmax", "Flatten":
@@ -68,7 +68,8 @@ func (m *maker) attrs(op string, dims []int) []api.Attr {
 	case "Squeeze":
 		return []api.Attr{numbers("axes", m.ones(dims)...)}
 	case "Unsqueeze":
-		return []api.Attr{numbers("axes", m.pick(2*rank+2)-rank-1)}
+		many := m.pick(3)
+		return []api.Attr{m.someAxes(many, rank+many)}
 	}
 	return nil
 }
@@ -217,15 +218,15 @@ func (m *maker) some(many, least, kinds int) []int {
 
 func (m *maker) someAxis(rank int) int { return m.pick(max(2*rank, 1)) - rank }
 
-// someAxes are some of a rank's, in any order.
-func (m *maker) someAxes(name string, rank int) api.Attr {
+// someAxes are so many of a rank's, in any order.
+func (m *maker) someAxes(many, rank int) api.Attr {
 	l := upTo(rank)
 	mix(m.pick, l)
-	l = l[:m.pick(rank+1)]
+	l = l[:many]
 	for i := range l {
 		l[i] -= rank * m.pick(2)
 	}
-	return numbers(name, l...)
+	return numbers("axes", l...)
 }
 
 // reshaped are other dims of as many elements: some of them together, some ones, one that is left open.
