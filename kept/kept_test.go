@@ -115,8 +115,8 @@ func TestInOrder(t *testing.T) {
 // All graphs that are wrong are so, and each of infer.All's errors is there.
 func TestWrongGraphs(t *testing.T) {
 	errors := map[api.Errno]int{}
-	for _, text := range wrongGraphs() {
-		_, e := infer.All(spell.Graph(text))
+	for _, g := range Wrong() {
+		_, e := infer.All(g)
 		errors[e]++
 	}
 	if errors[api.ErrGraph] < 10 || errors[api.ErrUnsupported] < 5 || errors[api.ErrLimit] < 4 || len(errors) != 3 {

@@ -109,6 +109,15 @@ func wrongGraphs() []string {
 	return append(strings.Split(wrong, "---"), "")
 }
 
+// Wrong are graphs that infer.All refuses, by each of its errors.
+func Wrong() []api.Graph {
+	var l []api.Graph
+	for _, text := range wrongGraphs() {
+		l = append(l, spell.Graph(text))
+	}
+	return l
+}
+
 // NotRefused are graphs that infer.All refuses, and that a pass takes, or refuses by another error, or not without answering something beside.
 func NotRefused(pass Pass) []string {
 	var l []string

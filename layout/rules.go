@@ -6,6 +6,7 @@ import (
 
 	"mandrel/api"
 	"mandrel/attr"
+	"mandrel/kind"
 )
 
 // rules stand in the order in which they are tried at a node; each tells whether it applied.
@@ -47,7 +48,7 @@ func (w *work) joinTurns(i int) bool {
 
 // joinReshapings lets a reshaping of a reshaping do both.
 func (w *work) joinReshapings(i int) bool {
-	m, ok := w.ahead(i, isReshaping)
+	m, ok := w.ahead(i, kind.Reshaping)
 	if !ok {
 		return false
 	}
@@ -61,10 +62,6 @@ func (w *work) joinReshapings(i int) bool {
 
 func isTurn(op string) bool { return op == "Transpose" }
 
-func isReshaping(op string) bool {
-	return op == "Reshape" || op == "Squeeze" || op == "Unsqueeze" || op == "Flatten"
-}
-
 func (w *work) doesNothing(n api.Node) bool {
 	switch {
 	case follows(n):
@@ -74,7 +71,7 @@ func (w *work) doesNothing(n api.Node) bool {
 	case isTurn(n.Op):
 		// An order has each number once.
 		return slices.IsSorted(w.orderOf(n))
-	case isReshaping(n.Op), n.Op == "Expand":
+	case kind.Reshaping(n.Op), n.Op == "Expand":
 		return slices.Equal(w.dims[n.Out], w.dims[n.In[0]])
 	}
 	return false

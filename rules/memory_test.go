@@ -10,8 +10,10 @@ import (
 	"unsafe"
 
 	"mandrel/api"
+	"mandrel/arena"
 	"mandrel/graph"
 	"mandrel/infer"
+	"mandrel/live"
 	"mandrel/num"
 	"mandrel/passes"
 	"mandrel/pb"
@@ -80,11 +82,25 @@ func calls() []call {
 	l = append(l, nodeCalls("infer.Out", infer.Out)...)
 	l = append(l, evalCalls()...)
 	l = append(l, passCalls()...)
+	l = append(l, layoutCalls()...)
 	return append(l, tensorCalls()...)
 }
 
-// passCalls have graphs of which passes leave something as it is, take something away, and put something together, and graphs of all kinds.
-func passCalls() []call {
+// layoutCalls have graphs with and without pairs, and such as have an error.
+func layoutCalls() []call {
+	var l []call
+	for _, g := range passGraphs() {
+		l = append(l, of("live.Before", live.Before, g), of("arena.Plan", arena.Plan, g))
+		l = append(l, of("live.Apart", live.Apart, g, 0, 1), of("live.Apart", live.Apart, g, 0, 0))
+		for _, v := range slices.Concat(g.In, g.Out) {
+			l = append(l, of("live.Width", live.Width, v))
+		}
+	}
+	return append(l, of("live.Width", live.Width, spell.Value("x 3")), of("live.Width", live.Width, spell.Value("x f 0")))
+}
+
+// passGraphs are such of which passes leave something as it is, take something away, and put something together, and graphs of all kinds.
+func passGraphs() []api.Graph {
 	l := graphs()
 	for _, text := range []string{
 		"in x i 2\ninit w i 2: 5 6\ny = Add(v, x)\nv = Neg(w)\nu = Neg(w)\nout y i 2\nout w i 2",
@@ -106,6 +122,11 @@ func passCalls() []call {
 		}
 		l = append(l, g)
 	}
+	return l
+}
+
+func passCalls() []call {
+	l := passGraphs()
 	var calls []call
 	for _, c := range graphPasses() {
 		for _, g := range l {

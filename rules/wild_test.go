@@ -9,13 +9,17 @@ import (
 	"testing"
 
 	"mandrel/api"
+	"mandrel/arena"
 	"mandrel/conv"
 	"mandrel/elem"
+	"mandrel/fit"
 	"mandrel/fold"
 	"mandrel/fuse"
+	"mandrel/graph"
 	"mandrel/infer"
 	"mandrel/layout"
 	"mandrel/linear"
+	"mandrel/live"
 	"mandrel/move"
 	"mandrel/passes"
 	"mandrel/pb"
@@ -234,6 +238,41 @@ func TestWildPasses(t *testing.T) {
 			if h, e := passes.Run(g, mask); e != api.ErrArg || !spell.SameGraphs(h, api.Graph{}) {
 				t.Fatalf("R3: passes.Run of %v, %d: %v, %d", g, mask, h, e)
 			}
+		}
+	}
+	for _, e := range []api.Errno{api.OK, api.ErrGraph, api.ErrUnsupported} {
+		if answers[e] < 100 {
+			t.Errorf("errors: %v", answers)
+		}
+	}
+}
+
+// R1: no graph makes a layer panic that says where values lie; it is refused as graph.Check or infer.All refuses it, or the layout fits it.
+func TestWildLayouts(t *testing.T) {
+	r := rand.New(rand.NewSource(5))
+	answers := map[api.Errno]int{}
+	for range 3000 {
+		g := sample.Graph(r.Intn, r.Intn(8), sample.All)
+		wildGraph(r, &g)
+		want := graph.Check(g)
+		a, b := int(wildNumber(r)), int(wildNumber(r))
+		rows, e := live.Before(g)
+		is, f := live.Apart(g, a, b)
+		if e != want || e != api.OK && len(rows) != 0 || f != want && f != api.ErrArg || f != api.OK && is {
+			t.Fatalf("R3: %v: %v, %d; %t, %d, not %d", g, rows, e, is, f, want)
+		}
+		_, want = infer.All(g)
+		answers[want]++
+		l, e := arena.Plan(g)
+		if e != want || e != api.OK && (l.Size != 0 || len(l.Places)+len(l.Pairs) != 0) {
+			t.Fatalf("R3: %v: %v, %d, not %d", g, l, e, want)
+		}
+		if e == api.OK && len(fit.Broken(g, l)) > 0 {
+			t.Fatalf("P20.1: %v: %v does not fit", g, l)
+		}
+		v := api.Value{Type: wildType(r), Dims: wildTensor(r, spell.Tensor("f 2: 1 2")).Dims}
+		if n, e := live.Width(v); e != api.OK && n != 0 || e == api.OK && n != fit.Width(v) {
+			t.Fatalf("R3: %v: %d, %d", v, n, e)
 		}
 	}
 	for _, e := range []api.Errno{api.OK, api.ErrGraph, api.ErrUnsupported} {
