@@ -58,6 +58,7 @@ func TestPlan(t *testing.T) {
 		{"an input and an initializer do not lie there", "in x i 2\ninit w i 2: 1 2\na = Neg(x)\nb = Neg(w)\nout a i 2\nout b i 2", 16, ""},
 		{"another node reads it later", "in x i 2\na = Neg(x)\nb = Neg(a)\nc = Add(b, a)\nout c i 2", 24, ""},
 		{"another node reads it at any time", "in x i 2\na = Neg(x)\nb = Neg(a)\nc = Sub(a, a)\nout b i 2\nout c i 2", 24, ""},
+		{"two that could go in place of one", "in x i 2\na = Neg(x)\nb = Neg(a)\nc = Abs(a)\nout b i 2\nout c i 2", 24, ""},
 		{"nobody reads it", "in x i 2\na = Neg(x)\nb = Neg(x)\nout x i 2", 16, ""},
 		{"another type", "in x i 2\na = Neg(x)\nb = Cast(a); to=1\nout b f 2", 16, ""},
 		{"another type and length", "in x l 2\na = Neg(x)\nb = Cast(a); to=9\nout b b 2", 24, ""},
