@@ -5,6 +5,7 @@ import (
 	"slices"
 
 	"mandrel/api"
+	"mandrel/room"
 )
 
 // gap is a row of bytes in which a value may lie.
@@ -40,7 +41,7 @@ func gapsBetween(places []api.Place, size int) ([]gap, int) {
 		if place.At > end {
 			gaps = append(gaps, gap{end, place.At - end})
 		}
-		end = max(end, place.At+rounded(place.Len))
+		end = max(end, place.At+room.Up(place.Len))
 	}
 	if size > end {
 		gaps = append(gaps, gap{end, size - end})

@@ -9,7 +9,7 @@ import (
 	"mandrel/infer"
 )
 
-// Pass is what a pass begins with: a graph of its own, whose nodes stand in the order of work, and all values, those of the nodes behind the others and in the same order.
+// Pass is what a pass, or a run that keeps its graph, begins with: a graph of its own, whose nodes stand in the order of work, and all values, those of the nodes behind the others and in the same order.
 func Pass(g api.Graph) (api.Graph, []api.Value, api.Errno) {
 	values, e := infer.All(g)
 	if e != api.OK {

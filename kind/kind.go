@@ -16,3 +16,17 @@ func OfOne(op string) bool {
 func Reshaping(op string) bool {
 	return op == "Reshape" || op == "Squeeze" || op == "Unsqueeze" || op == "Flatten"
 }
+
+// InPlace tells whether an operator makes each element of the one that stands at the same number alone, and of the same type: it may be written where that one stood.
+func InPlace(op string) bool {
+	return OfOne(op) || Reshaping(op)
+}
+
+// ByElement tells whether an operator goes element by element: all of its inputs are spread to what comes out.
+func ByElement(op string) bool {
+	switch op {
+	case "Add", "Sub", "Mul", "Div", "Max", "Min", "And", "Or", "Xor", "Equal", "Less", "Greater", "Where", "Clip", "Cast":
+		return true
+	}
+	return OfOne(op)
+}

@@ -61,7 +61,7 @@ func (n Nodes) isDone(before [][]bool, a, b int) bool {
 
 // InPlace is the node whose value a node may take the place of; false, if there is none. Operators that go in place keep the type and the number of elements.
 func (n Nodes) InPlace(before [][]bool, i int) (int, bool) {
-	if op := n.List[i].Op; !kind.OfOne(op) && !kind.Reshaping(op) || len(n.Reads[i]) == 0 {
+	if !kind.InPlace(n.List[i].Op) || len(n.Reads[i]) == 0 {
 		return 0, false
 	}
 	old := n.Reads[i][0]

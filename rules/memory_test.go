@@ -18,10 +18,12 @@ import (
 	"mandrel/passes"
 	"mandrel/pb"
 	"mandrel/sample"
+	"mandrel/sched"
 	"mandrel/schema"
 	"mandrel/sem"
 	"mandrel/shape"
 	"mandrel/spell"
+	"mandrel/tile"
 	"mandrel/view"
 	"mandrel/wire"
 )
@@ -83,6 +85,7 @@ func calls() []call {
 	l = append(l, evalCalls()...)
 	l = append(l, passCalls()...)
 	l = append(l, layoutCalls()...)
+	l = append(l, machineCalls()...)
 	return append(l, tensorCalls()...)
 }
 
@@ -97,6 +100,57 @@ func layoutCalls() []call {
 		}
 	}
 	return append(l, of("live.Width", live.Width, spell.Value("x 3")), of("live.Width", live.Width, spell.Value("x f 0")))
+}
+
+// machineCalls have machines of which nothing, something, or all is done, and such as there are none of.
+func machineCalls() []call {
+	l := []call{
+		of("tile.Steps", tile.Steps, 1, 5, 2), of("tile.Steps", tile.Steps, -1, 5, 2),
+		of("sched.Put", sched.Put, api.Int32, []int64{1, -2}), of("sched.Put", sched.Put, api.Int32, []int64{1, 1 << 31}),
+		of("sched.Get", sched.Get, api.Bool, []byte{0, 1, 1}), of("sched.Get", sched.Get, api.Bool, []byte{0, 1, 2}),
+	}
+	r := rand.New(rand.NewSource(11))
+	for _, g := range passGraphs() {
+		where, _ := arena.Plan(g)
+		in := sample.Inputs(r.Intn, g)
+		l = append(l, of("sched.Fits", sched.Fits, g, where), of("sched.Fits", sched.Fits, g, api.Layout{Size: 8}))
+		l = append(l, of("sched.New", sched.New, g, where, in, 0), of("sched.New", sched.New, g, api.Layout{}, in[:0], 2))
+		for _, many := range []int{0, 1, 3, 1000} {
+			l = append(l, of("sched.Machine", machineAnswers, g, where, in, 2, many))
+		}
+	}
+	return l
+}
+
+// answers are those of a machine.
+type answers struct {
+	Steps         []api.Step
+	Reads, Writes []api.Place
+	Error         api.Errno
+	Out           []api.Tensor
+}
+
+// machineAnswers are what a machine answers behind some steps, twice over; the error, if there is no machine.
+func machineAnswers(g api.Graph, where api.Layout, in []api.Tensor, size, many int) ([2]answers, api.Errno) {
+	var l [2]answers
+	m, e := sched.New(g, where, in, size)
+	if e != api.OK {
+		return l, e
+	}
+	for range many {
+		if steps := m.Enabled(); len(steps) > 0 {
+			m.Do(steps[len(steps)/2])
+		}
+	}
+	for i := range l {
+		l[i].Steps = m.Enabled()
+		l[i].Out, l[i].Error = m.Out()
+		s := append(m.Enabled(), api.Step{Node: len(g.Nodes) - 1, Hi: 1}, api.Step{Node: len(g.Nodes) - 1, Hi: 2})
+		for k := 0; k < len(s) && len(l[i].Writes) == 0; k++ {
+			l[i].Reads, l[i].Writes = m.Touches(s[k])
+		}
+	}
+	return l, api.OK
 }
 
 // passGraphs are such of which passes leave something as it is, take something away, and put something together, and graphs of all kinds.
@@ -223,6 +277,7 @@ func tensorCalls() []call {
 		for _, c := range doers() {
 			l = append(l, of(c.name+" of "+text, c.do, n, tensors))
 		}
+		l = append(l, of("tile.Part of "+text, tile.Part, n, tensors, 0, 1), of("tile.Part of "+text, tile.Part, n, tensors, 1, 2), of("tile.Part of "+text, tile.Part, n, tensors, 1, 1))
 	}
 	return l
 }
@@ -267,6 +322,10 @@ func copied(v reflect.Value, list copyOfList) reflect.Value {
 		for i := range v.NumField() {
 			c.Field(i).Set(copied(v.Field(i), list))
 		}
+	case reflect.Array:
+		for i := range v.Len() {
+			c.Index(i).Set(copied(v.Index(i), list))
+		}
 	case reflect.Slice:
 		c.Set(list(v))
 		for i := range c.Len() {
@@ -305,6 +364,10 @@ func spans(v reflect.Value) []span {
 	case reflect.Struct:
 		for i := range v.NumField() {
 			l = append(l, spans(v.Field(i))...)
+		}
+	case reflect.Array:
+		for i := range v.Len() {
+			l = append(l, spans(v.Index(i))...)
 		}
 	case reflect.String:
 		s := v.String()

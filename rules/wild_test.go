@@ -25,8 +25,10 @@ import (
 	"mandrel/pb"
 	"mandrel/reduce"
 	"mandrel/sample"
+	"mandrel/sched"
 	"mandrel/sem"
 	"mandrel/spell"
+	"mandrel/tile"
 )
 
 // doers are the layers that do nodes, of those that are built.
@@ -279,5 +281,118 @@ func TestWildLayouts(t *testing.T) {
 		if answers[e] < 100 {
 			t.Errorf("errors: %v", answers)
 		}
+	}
+}
+
+// R1: no node, no tensors and no ends make a part panic.
+func TestWildParts(t *testing.T) {
+	r := rand.New(rand.NewSource(6))
+	answers := map[api.Errno]int{}
+	for _, line := range strings.Split(spell.Others(""), "\n") {
+		for range 300 {
+			n, in := wildNode(r, line)
+			lo, hi := r.Intn(2), 1+r.Intn(2)
+			if r.Intn(4) == 0 {
+				lo, hi = int(wildNumber(r)), int(wildNumber(r))
+			}
+			l, e := tile.Part(n, in, lo, hi)
+			answers[e]++
+			if e != api.OK && len(l) > 0 || e == api.OK && len(l) != hi-lo {
+				t.Fatalf("R3: %v of %v, %d to %d: %d, %d", n, in, lo, hi, l, e)
+			}
+			node, count, size := int(wildNumber(r)), int(wildNumber(r)), int(wildNumber(r))
+			steps, e := tile.Steps(node, count, size)
+			if e != api.OK && len(steps) > 0 || e == api.OK && len(steps) != (count+size-1)/size {
+				t.Fatalf("R3: %d, %d, %d: %d steps, %d", node, count, size, len(steps), e)
+			}
+		}
+	}
+	for _, e := range []api.Errno{api.OK, api.ErrArg, api.ErrGraph, api.ErrUnsupported, api.ErrLimit, api.ErrDivide, api.ErrIndex} {
+		if answers[e] < 5 {
+			t.Errorf("errors: %v", answers)
+		}
+	}
+}
+
+// wildLayout is one with something changed; its lists are its own.
+func wildLayout(r *rand.Rand, l api.Layout) api.Layout {
+	l.Places, l.Pairs = slices.Clone(l.Places), slices.Clone(l.Pairs)
+	switch r.Intn(6) {
+	case 0:
+		l.Size = int(wildNumber(r))
+	case 1:
+		l.Places = append(l.Places, api.Place{At: int(wildNumber(r)), Len: int(wildNumber(r))})
+	case 2:
+		l.Pairs = append(l.Pairs, api.Pair{New: "v1", Old: "v2"})
+	default:
+		if len(l.Places) == 0 {
+			l.Size = -8
+			break
+		}
+		p := &l.Places[r.Intn(len(l.Places))]
+		p.At += int(wildNumber(r))
+		if r.Intn(2) == 0 {
+			p.Len += int(wildNumber(r))
+		}
+	}
+	return l
+}
+
+// R1: no graph, no layout, no inputs, no size and no steps make a machine panic, or go on for ever.
+func TestWildMachines(t *testing.T) {
+	r := rand.New(rand.NewSource(7))
+	answers := map[api.Errno]int{}
+	for range 4000 {
+		g := sample.Graph(r.Intn, r.Intn(6), sample.All)
+		in := sample.Inputs(r.Intn, g)
+		l := fit.Some(r.Intn, g)
+		size := 1 + r.Intn(50)
+		switch r.Intn(5) {
+		case 0:
+			wildGraph(r, &g)
+		case 1:
+			l = wildLayout(r, l)
+		case 2:
+			size = int(wildNumber(r))
+		case 3:
+			if len(in) > 0 {
+				in[0] = wildTensor(r, in[0])
+			}
+		}
+		m, e := sched.New(g, l, in, size)
+		answers[e]++
+		if (m == nil) != (e != api.OK) {
+			t.Fatalf("R3: %v, %v of %v by %d: %v, %d", g, l, in, size, m, e)
+		}
+		runWild(t, r, m)
+	}
+	for _, e := range []api.Errno{api.OK, api.ErrArg, api.ErrGraph, api.ErrUnsupported} {
+		if answers[e] < 30 {
+			t.Errorf("errors: %v", answers)
+		}
+	}
+}
+
+// runWild does steps, those that may be done and others, until no one may be.
+func runWild(t *testing.T, r *rand.Rand, m *sched.Machine) {
+	t.Helper()
+	for steps := m.Enabled(); len(steps) > 0; steps = m.Enabled() {
+		wild := api.Step{Node: int(wildNumber(r)), Lo: int(wildNumber(r)), Hi: int(wildNumber(r))}
+		m.Do(wild)
+		m.Touches(wild)
+		m.Do(steps[r.Intn(len(steps))])
+		if out, e := m.Out(); e != api.OK && len(out) > 0 {
+			t.Fatalf("R3: %v, %d", out, e)
+		}
+	}
+	if out, e := m.Out(); e != api.OK && len(out) > 0 || m == nil && e != api.ErrArg {
+		t.Fatalf("R3: %v, %d", out, e)
+	}
+	typ, data, b := wildType(r), []int64{wildNumber(r), wildNumber(r)}, []byte(strconv.FormatInt(wildNumber(r), 10))
+	if b, e := sched.Put(typ, data); e != api.OK && len(b) > 0 {
+		t.Fatalf("R3: %x, %d", b, e)
+	}
+	if l, e := sched.Get(typ, b); e != api.OK && len(l) > 0 {
+		t.Fatalf("R3: %d, %d", l, e)
 	}
 }
