@@ -18,9 +18,9 @@ import (
 
 const root = ".."
 
-// layers are the packages in the map's order, with step, show, attr, kind, needs, begin and room, which several of them lean on, and behind them spell, sample, kept and fit, which are for tests: each may import those ahead of it.
+// layers are the packages in the map's order, with step, show, attr, kind, needs, begin and room, which several of them lean on, and behind them spell, sample, kept, fit and told, which are for tests: each may import those ahead of it.
 func layers() []string {
-	return strings.Fields("api wire num step shape view show pb schema attr kind graph needs infer begin elem move reduce linear conv sem fold fuse layout passes live room arena tile sched load runner spell sample kept fit")
+	return strings.Fields("api wire num step shape view show pb schema attr kind graph needs infer begin elem move reduce linear conv sem fold fuse layout passes live room arena tile sched load runner spell sample kept fit told")
 }
 
 // library are the packages of Go's library that the program may import.

@@ -14,9 +14,11 @@ import (
 	"mandrel/graph"
 	"mandrel/infer"
 	"mandrel/live"
+	"mandrel/load"
 	"mandrel/num"
 	"mandrel/passes"
 	"mandrel/pb"
+	"mandrel/runner"
 	"mandrel/sample"
 	"mandrel/sched"
 	"mandrel/schema"
@@ -24,6 +26,7 @@ import (
 	"mandrel/shape"
 	"mandrel/spell"
 	"mandrel/tile"
+	"mandrel/told"
 	"mandrel/view"
 	"mandrel/wire"
 )
@@ -86,6 +89,7 @@ func calls() []call {
 	l = append(l, passCalls()...)
 	l = append(l, layoutCalls()...)
 	l = append(l, machineCalls()...)
+	l = append(l, planCalls()...)
 	return append(l, tensorCalls()...)
 }
 
@@ -118,6 +122,25 @@ func machineCalls() []call {
 		for _, many := range []int{0, 1, 3, 1000} {
 			l = append(l, of("sched.Machine", machineAnswers, g, where, in, 2, many))
 		}
+	}
+	return l
+}
+
+// planCalls have files, and plans, such as may be and others, with masks, inputs and sizes of both kinds.
+func planCalls() []call {
+	l := []call{of("load.Load", load.Load, "", 0), of("load.Load", load.Load, "\x08", 0), of("load.Check", load.Check, api.Plan{}), of("runner.Run", runner.Run, api.Plan{}, []api.Tensor{}, 1, []int{1})}
+	r := rand.New(rand.NewSource(12))
+	for i, g := range passGraphs() {
+		s := told.File(r.Intn, g)
+		in := sample.Inputs(r.Intn, g)
+		for _, mask := range []int{0, i % 16, api.PassAll, 16} {
+			l = append(l, of("load.Load", load.Load, s, mask))
+		}
+		p, _ := load.Load(s, i%16)
+		wrong := p
+		wrong.Layout.Size += 8
+		l = append(l, of("load.Check", load.Check, p), of("load.Check", load.Check, wrong))
+		l = append(l, of("runner.Run", runner.Run, p, in, 1, []int{-1, 5, 2}), of("runner.Run", runner.Run, p, in, 3, []int{}), of("runner.Run", runner.Run, p, in, 0, []int{1}), of("runner.Run", runner.Run, wrong, in, 1, []int{1}))
 	}
 	return l
 }

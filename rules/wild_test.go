@@ -20,15 +20,18 @@ import (
 	"mandrel/layout"
 	"mandrel/linear"
 	"mandrel/live"
+	"mandrel/load"
 	"mandrel/move"
 	"mandrel/passes"
 	"mandrel/pb"
 	"mandrel/reduce"
+	"mandrel/runner"
 	"mandrel/sample"
 	"mandrel/sched"
 	"mandrel/sem"
 	"mandrel/spell"
 	"mandrel/tile"
+	"mandrel/told"
 )
 
 // doers are the layers that do nodes, of those that are built.
@@ -394,5 +397,95 @@ func runWild(t *testing.T, r *rand.Rand, m *sched.Machine) {
 	}
 	if l, e := sched.Get(typ, b); e != api.OK && len(l) > 0 {
 		t.Fatalf("R3: %d, %d", l, e)
+	}
+}
+
+// R1: no bytes and no mask make loading panic, or go on for ever; what is refused is refused by a class, and what is not may be.
+func TestWildFiles(t *testing.T) {
+	r := rand.New(rand.NewSource(8))
+	answers := map[api.Errno]int{}
+	for i := range 6000 {
+		g := sample.Graph(r.Intn, r.Intn(6), sample.All)
+		wildGraph(r, &g)
+		s := told.File(r.Intn, g)
+		if i%3 == 0 {
+			s = told.Spoilt(r.Intn, s)
+		}
+		mask := r.Intn(16)
+		if i%10 == 0 {
+			mask = wildMask(r)
+		}
+		p, e := load.Load(s, mask)
+		answers[e]++
+		isNone := len(p.Graph.Nodes)+len(p.Order)+len(p.Values)+len(p.Layout.Places)+p.Layout.Size == 0
+		if e != api.OK && !isNone || e == api.OK && load.Check(p) != api.OK || e > api.ErrLimit || (e == api.ErrArg) != (mask < 0 || mask > 15) {
+			t.Fatalf("P4: %x with %d: %v, %d", s, mask, p, e)
+		}
+	}
+	for _, e := range []api.Errno{api.OK, api.ErrArg, api.ErrWire, api.ErrGraph, api.ErrUnsupported} {
+		if answers[e] < 100 {
+			t.Errorf("errors: %v", answers)
+		}
+	}
+}
+
+// wildPlan changes something of a plan, whose lists are its own.
+func wildPlan(r *rand.Rand, p *api.Plan) {
+	switch r.Intn(5) {
+	case 0:
+		wildGraph(r, &p.Graph)
+	case 1:
+		p.Layout = wildLayout(r, p.Layout)
+	case 2:
+		p.Order = append(p.Order, int(wildNumber(r)))
+	case 3:
+		if len(p.Order) > 0 {
+			p.Order[r.Intn(len(p.Order))] = int(wildNumber(r))
+		}
+	default:
+		v := &p.Values[r.Intn(len(p.Values))]
+		v.Type, v.Dims = wildType(r), append(v.Dims, int(wildNumber(r)))
+	}
+}
+
+// R1: no plan, no inputs, no size and no picks make a run panic, or go on for ever.
+func TestWildPlans(t *testing.T) {
+	r := rand.New(rand.NewSource(9))
+	answers := map[api.Errno]int{}
+	for range 5000 {
+		g := sample.Graph(r.Intn, r.Intn(6), sample.All)
+		in := sample.Inputs(r.Intn, g)
+		p, e := load.Load(told.File(r.Intn, g), r.Intn(16))
+		if e != api.OK {
+			t.Fatalf("P4: %v: %d", g, e)
+		}
+		size, picks := 1+r.Intn(9), make([]int, r.Intn(4))
+		for i := range picks {
+			picks[i] = int(wildNumber(r))
+		}
+		switch r.Intn(6) {
+		case 0, 1:
+			wildPlan(r, &p)
+		case 2:
+			size = int(wildNumber(r))
+		case 3:
+			if len(in) > 0 {
+				in[0] = wildTensor(r, in[0])
+			}
+		}
+		check := load.Check(p)
+		out, e := runner.Run(p, in, size, picks)
+		answers[e]++
+		if e != api.OK && len(out) > 0 || check != api.OK && e != api.ErrArg || e == api.OK && len(out) != len(p.Graph.Out) {
+			t.Fatalf("R3: %v of %v by %d, picked %d: %v, %d", p, in, size, picks, out, e)
+		}
+		for _, x := range out {
+			if pb.Check(x) != api.OK {
+				t.Fatalf("P14.3: %v of %v: %v", p, in, out)
+			}
+		}
+	}
+	if answers[api.OK] < 1000 || answers[api.ErrArg] < 1000 {
+		t.Errorf("errors: %v", answers)
 	}
 }

@@ -1,6 +1,7 @@
 package sched
 
 import (
+	"slices"
 	"strings"
 	"sync/atomic"
 
@@ -35,9 +36,9 @@ func (j *job) isWhole() bool { return j.isAllDone() && j.firstError() == api.OK 
 
 func (j *job) firstError() api.Errno { return api.Errno(j.erred.Load()) }
 
-// left are the steps that nobody has taken yet.
-func (j *job) left() []api.Step {
-	var l []api.Step
+// appendLeft puts the steps that nobody has taken yet behind others. There may be many, and a run asks for them at each step: so they are laid into their list at once.
+func (j *job) appendLeft(l []api.Step) []api.Step {
+	l = slices.Grow(l, len(j.steps)-int(j.done.Load()))
 	for i, s := range j.steps {
 		if !j.taken[i].Load() {
 			l = append(l, s)
